@@ -1,0 +1,1 @@
+"""Rightrecord: what is true whichever of the conflicting records is right."""

@@ -1,0 +1,1 @@
+"""Values, and the schemas whose tables hold them."""

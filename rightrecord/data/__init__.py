@@ -1,0 +1,1 @@
+"""Databases and their groups of records."""
