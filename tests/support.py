@@ -58,8 +58,3 @@ class Case(unittest.TestCase):
         expected = f'{type(error).__name__}{vars(error)!r}'
         for _ in range(2):
             self.assertEqual(self.call(function, *arguments), expected, (function.__name__, arguments))
-
-
-def all_tuples(value):
-    """Return whether a result consists of tuples, down to values that are none."""
-    return not isinstance(value, tuple) or type(value) is tuple and all(map(all_tuples, value))

@@ -13,6 +13,22 @@ INTERFACE = {
                        'group_names(database)', 'group_records(database, table, key)',
                        'conflicting_groups(database)', 'with_record(database, table, record)',
                        'without_record(database, table, record)'),
+    'data.choices': ('is_choice(database, value)', 'count_choices(database)', 'choice_at(database, number)',
+                     'choice_number(database, choice)', 'chosen_record(database, choice, table, key)',
+                     'chosen_database(database, choice)', 'swapped(database, choice, table, key, record)',
+                     'unlike_groups(database, choice, other)'),
+    'query.queries': ('is_query(schema, value)', 'is_answer(schema, query, value)', 'head_kinds(schema, query)',
+                      'bound_variables(schema, query)', 'instantiate(schema, query, answer)',
+                      'with_head(schema, query, head)'),
+    'query.matching': ('possible_answers(database, query)', 'witnesses(database, query, answer)',
+                       'is_witness(database, query, answer, value)', 'answers_in(database, query, choice)',
+                       'holds_in(database, query, answer, choice)',
+                       'answers_through(database, query, choice, table, key)'),
+    'attack.closures': ('implied_variables(schema, query, index)', 'attacked_variables(schema, query, index)',
+                        'unattacked_variables(schema, query)', 'attack_path(schema, query, index, variable)',
+                        'is_attack_path(schema, query, index, variable, value)'),
+    'attack.graphs': ('attack_edges(schema, query)', 'find_cycle(schema, query)', 'is_cycle(schema, query, value)',
+                      'elimination_order(schema, query)'),
 }
 
 

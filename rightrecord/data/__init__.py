@@ -1,1 +1,1 @@
-"""Databases and their groups of records."""
+"""Databases, their groups of records, and the choices among them."""

@@ -1,0 +1,1 @@
+"""Which atoms of a query attack which variables and which other atoms."""

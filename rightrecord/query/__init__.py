@@ -1,0 +1,1 @@
+"""Queries, their answers, and the records that match them."""
