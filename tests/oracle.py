@@ -44,6 +44,52 @@ def chosen_rows(database, choice):
     return rows
 
 
+def domains(schema, query):
+    """Return the answers whose values are among those of the random databases."""
+    spare = {'name': ('u', 'v', 'w'), 'number': (0, 1, 2)}
+    kinds = {table[0]: table[2] for table in schema}
+    found = {term: kind for table, terms in query[1] for term, kind in zip(terms, kinds[table])}
+    return list(itertools.product(*[spare[found[variable]] for variable in query[0]]))
+
+
+def answers_by_choice(query, database):
+    """Return a dict from each choice to the answers that hold in it."""
+    return {choice: answers(matches(query, chosen_rows(database, choice))) for choice in choices(database)}
+
+
+def classes(schema, query, database):
+    """Return a dict from each answer of the random values to its class."""
+    held = answers_by_choice(query, database).values()
+    found = {}
+    for answer in domains(schema, query):
+        holds = [answer in some for some in held]
+        found[answer] = 'certain' if all(holds) else 'open' if any(holds) else 'impossible'
+    return found
+
+
+def is_tree(database, query, answer, value, taken=()):
+    """Return whether the value is a tree, from its whole down to the leaves; taken has the branches so far."""
+    named = dict(groups(database))
+    if type(value) is not tuple or len(value) not in (2, 4):
+        return False
+    if len(value) == 2:
+        witnesses = [witness for other, witness in matches(query, all_rows(database)) if other == answer]
+        if repr(value[0]) != repr('leaf') or repr(value[1]) not in map(repr, witnesses):
+            return False
+        sizes = {table[0]: table[1] for table in database[0]}
+        owners = [((table, record[:sizes[table]]), record) for (table, _), record in zip(query[1], value[1])]
+        return all(len(named[name]) == 1 or (name, record) in taken for name, record in owners)
+    word, table, key, branches = value
+    if repr(word) != repr('group') or repr((table, key)) not in map(repr, named):
+        return False
+    name = (table, key)
+    if name in [other for other, _ in taken] or type(branches) is not tuple or len(branches) != len(named[name]):
+        return False
+    return all(type(branch) is tuple and len(branch) == 2 and repr(branch[0]) == repr(record)
+               and is_tree(database, query, answer, branch[1], taken + ((name, record),))
+               for record, branch in zip(named[name], branches))
+
+
 def answers(found):
     return tuple(sorted({answer for answer, _ in found}))
 
@@ -105,9 +151,9 @@ def order(schema, query):
     return gone
 
 
-def random_schema(pick, kinds=('name', 'number'), tables=4):
+def random_schema(pick, kinds=('name', 'number'), tables=4, columns=3):
     names = sorted(pick.sample(['a', 'b', 'c', 'd', 'e'], pick.randint(1, tables)))
-    shapes = [tuple(pick.choice(kinds) for _ in range(pick.randint(1, 3))) for _ in names]
+    shapes = [tuple(pick.choice(kinds) for _ in range(pick.randint(1, columns))) for _ in names]
     return tuple((name, pick.randint(0, len(shape)), shape) for name, shape in zip(names, shapes))
 
 
@@ -134,4 +180,19 @@ def random_inputs(seed, count, **limits):
     for _ in range(count):
         schema = random_schema(pick, **limits)
         found.append((schema, random_query(pick, schema), random_database(pick, schema)))
+    return found
+
+
+def cyclic_inputs(seed, count):
+    """Return many triples of a schema, a query with a cycle and a database whose tables are pairs of names."""
+    pick = random.Random(seed)
+    found = []
+    while len(found) < count:
+        names = 'abcd'[:pick.randint(2, 4)]
+        schema = tuple((name, pick.randint(0, 1), ('name', 'name')) for name in names)
+        atoms = tuple((name, tuple(pick.sample('WXYZ', 2))) for name in names)
+        free = sorted(variables(((), atoms)))
+        query = (tuple(pick.sample(free, pick.randint(0, 1))), atoms)
+        if cycles(query, edges(schema, query)):
+            found.append((schema, query, random_database(pick, schema)))
     return found

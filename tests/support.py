@@ -39,22 +39,28 @@ def broken(value):
 class Case(unittest.TestCase):
     """Checks of a call: its result, or its error, and that it changes nothing."""
 
-    def call(self, function, *arguments):
-        before = repr(arguments)
+    def call(self, function, *arguments, **named):
+        before = repr((arguments, named))
         try:
-            return repr(function(*arguments))
+            return repr(function(*arguments, **named))
         except Exception as error:
             # repr tells True from 1 and a tuple from a list; == does not.
             return f'{type(error).__name__}{vars(error)!r}'
         finally:
-            self.assertEqual(repr(arguments), before, 'an argument was changed')
+            self.assertEqual(repr((arguments, named)), before, 'an argument was changed')
 
-    def returns(self, expected, function, *arguments):
+    def returns(self, expected, function, *arguments, **named):
         for _ in range(2):
-            self.assertEqual(self.call(function, *arguments), repr(expected), (function.__name__, arguments))
+            self.assertEqual(self.call(function, *arguments, **named), repr(expected),
+                             (function.__name__, arguments, named))
 
-    def fails(self, error, function, *arguments):
+    def fails(self, error, function, *arguments, **named):
         """The call raises an error of just this class, with just these attributes."""
         expected = f'{type(error).__name__}{vars(error)!r}'
         for _ in range(2):
-            self.assertEqual(self.call(function, *arguments), expected, (function.__name__, arguments))
+            self.assertEqual(self.call(function, *arguments, **named), expected, (function.__name__, arguments, named))
+
+    def stable(self, function, *arguments, **named):
+        """Return the result of a call that changes nothing and gives an equal result again."""
+        self.assertEqual(self.call(function, *arguments, **named), self.call(function, *arguments, **named))
+        return function(*arguments, **named)

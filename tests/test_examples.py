@@ -36,7 +36,7 @@ class TestExamples(unittest.TestCase):
             exec(line[4:], shared)
         for file in sorted(FOLDER.glob('stage*.txt')):
             blocks = file.read_text().strip().split('\n\n')
-            self.assertGreaterEqual(len(blocks), 4, file.name)
+            self.assertGreaterEqual(len(blocks), 3, file.name)
             for block in blocks:
                 with self.subTest(file=file.name, example=block):
                     self.check(block.splitlines(), dict(shared))

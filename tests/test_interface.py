@@ -29,6 +29,20 @@ INTERFACE = {
                         'is_attack_path(schema, query, index, variable, value)'),
     'attack.graphs': ('attack_edges(schema, query)', 'find_cycle(schema, query)', 'is_cycle(schema, query, value)',
                       'elimination_order(schema, query)'),
+    'formula.formulas': ('is_formula(schema, value)', 'free_variables(schema, formula)',
+                         'formula_size(schema, formula)', 'quantifier_count(schema, formula)',
+                         'push_negations(schema, formula)'),
+    'formula.evaluation': ('evaluate(database, formula, binding)',),
+    'formula.compiler': ('compile_query(schema, query)', 'certain_by_formula(database, query)'),
+    'certain.trees': ('is_certain_tree(database, query, answer, value)', 'certain_tree(database, query, answer)'),
+    'certain.exchanges': ('is_refuting(database, query, answer, value)', 'refuting_choice(database, query, answer)',
+                          'exchange(database, query, answer, choice, other)'),
+}
+CONSTANTS = {
+    'base.schemas': {'MAX_TABLES': 6, 'MAX_COLUMNS': 4},
+    'data.databases': {'MAX_RECORDS': 40, 'MAX_GROUP': 6},
+    'query.queries': {'MAX_ATOMS': 4, 'MAX_HEAD': 4},
+    'formula.formulas': {'MAX_DEPTH': 20, 'MAX_PARTS': 200, 'MAX_QUANTIFIERS': 8},
 }
 
 
@@ -43,6 +57,11 @@ class TestInterface(unittest.TestCase):
                     function = getattr(module, name)
                     self.assertEqual(name + str(inspect.signature(function)), text)
                     self.assertEqual(function.__module__, module.__name__)
+
+    def test_each_constant(self):
+        for file, constants in CONSTANTS.items():
+            module = importlib.import_module('rightrecord.' + file)
+            self.assertEqual({name: getattr(module, name) for name in constants}, constants)
 
 
 if __name__ == '__main__':

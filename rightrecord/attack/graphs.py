@@ -3,6 +3,7 @@
 from rightrecord.attack.closures import atom_variables, find_paths
 from rightrecord.base.schemas import check_schema
 from rightrecord.base.values import is_integer_below, is_tuple
+from rightrecord.errors import CyclicQuery
 from rightrecord.query.queries import check_query
 
 LEAST_CYCLE = 2
@@ -71,3 +72,10 @@ def _least_unattacked(pairs):
 
 def _without(variables, removed):
     return tuple([variable for variable in variables if variable not in removed])
+
+
+def check_acyclic(schema, query):
+    """Raise CyclicQuery with a cycle of the valid query if it has one."""
+    cycle = find_cycle(schema, query)
+    if cycle is not None:
+        raise CyclicQuery(cycle)

@@ -54,3 +54,8 @@ def is_one_of(value, rows):
     """Return whether the value is one of the rows, which are tuples of values."""
     # True equals 1 in Python, but it is no value: equality alone would let it pass.
     return type(value) is tuple and None not in [value_kind(item) for item in value] and value in rows
+
+
+def is_term(value):
+    """Return whether the value is a variable or a value."""
+    return is_variable(value) or value_kind(value) is not None

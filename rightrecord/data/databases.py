@@ -92,11 +92,21 @@ def database_groups(database):
     return {name: tuple(groups[name]) for name in groups}
 
 
+def has_group(groups, table, key):
+    """Return whether one of the groups has this table and this key, which may be any values."""
+    return is_one_of(key, [name[1] for name in groups if name[0] == table])
+
+
 def check_group(database, table, key):
     """Raise UnknownGroup if the database has no group with this key in its table."""
-    keys = [name[1] for name in database_groups(database) if name[0] == table]
-    if not is_one_of(key, keys):
+    if not has_group(database_groups(database), table, key):
         raise UnknownGroup((table, key))
+
+
+def conflict_owners(groups):
+    """Return a dict from the pair (table, record) of each record of a conflicting group to the name of the group."""
+    conflicting = [name for name in groups if len(groups[name]) > 1]
+    return {(name[0], record): name for name in conflicting for record in groups[name]}
 
 
 def table_rows(database, table):

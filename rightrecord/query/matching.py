@@ -1,6 +1,6 @@
 """Matches of queries, in all records of a database and in the records of a choice."""
 
-from rightrecord.base.values import is_one_of, is_variable
+from rightrecord.base.values import is_one_of, is_tuple, is_variable
 from rightrecord.data.choices import check_choice, chosen_record, keep_chosen
 from rightrecord.data.databases import check_database, rows_by_table
 from rightrecord.query.queries import check_answer, check_query
@@ -49,6 +49,15 @@ def find_witnesses(query, answer, rows):
     return tuple([matched[0] for matched in find_matches(atoms, rows, dict(zip(head, answer)))])
 
 
+def witnesses_by_answer(query, rows):
+    """Return a dict from each answer of a match in the rows to the records of its matches, all ascending."""
+    head, atoms = query
+    grouped = {}
+    for witness, values in find_matches(atoms, rows, {}):
+        grouped.setdefault(_head_values(head, values), []).append(witness)
+    return {answer: tuple(grouped[answer]) for answer in sorted(grouped)}
+
+
 def possible_answers(database, query):
     """Return the answers that have a witness, ascending."""
     check_database(database)
@@ -66,11 +75,25 @@ def witnesses(database, query, answer):
 
 def is_witness(database, query, answer, value):
     """Return whether the value is a witness of the answer."""
-    found = witnesses(database, query, answer)
-    if type(value) is not tuple:
+    check_database(database)
+    check_query(database[0], query)
+    check_answer(database[0], query, answer)
+    return is_witness_in(query, answer, rows_by_table(database), value)
+
+
+def is_witness_in(query, answer, rows, value):
+    """Return whether the value is the tuple of the records of a match in the rows with these head values."""
+    head, atoms = query
+    if not is_tuple(value, len(atoms), len(atoms)):
         return False
-    rows = [record for witness in found for record in witness]
-    return all([is_one_of(record, rows) for record in value]) and value in found
+    known = dict(zip(head, answer))
+    for (table, terms), record in zip(atoms, value):
+        if not is_one_of(record, rows[table]):
+            return False
+        known = fit_record(terms, record, known)
+        if known is None:
+            return False
+    return True
 
 
 def answers_in(database, query, choice):
