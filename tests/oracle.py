@@ -1,5 +1,6 @@
 """The definitions of the document, written down once more, by trying all possibilities; and random inputs."""
 
+import fractions
 import itertools
 import random
 
@@ -65,6 +66,52 @@ def classes(schema, query, database):
         holds = [answer in some for some in held]
         found[answer] = 'certain' if all(holds) else 'open' if any(holds) else 'impossible'
     return found
+
+
+def conflicts(database, query, witness):
+    """Return the names of the conflicting groups to which the records of a witness belong."""
+    many = dict(groups(database))
+    sizes = {table[0]: table[1] for table in database[0]}
+    names = [(table, record[:sizes[table]]) for (table, _), record in zip(query[1], witness)]
+    return {name for name in names if len(many[name]) > 1}
+
+
+def linked(sets):
+    """Return, ascending, the classes of names that are connected by common sets."""
+    names = sorted(set().union(*sets))
+    near = {name: {other for some in sets if name in some for other in some} for name in names}
+    for _ in names:
+        near = {name: set().union(*[near[other] for other in near[name]]) for name in names}
+    return tuple(sorted({tuple(sorted(some)) for some in near.values()}))
+
+
+def components(database, query, answer):
+    found = [witness for other, witness in matches(query, all_rows(database)) if other == answer]
+    return linked([conflicts(database, query, witness) for witness in found])
+
+
+def blocks(database, query):
+    found = {}
+    for answer, witness in matches(query, all_rows(database)):
+        found[answer] = found.get(answer, set()) | conflicts(database, query, witness)
+    return linked(list(found.values()))
+
+
+def shares(database, weights):
+    """Return a dict from each choice to its share."""
+    weight = {(table[0], record): worth for table, rows, entry in zip(*database, weights)
+              for record, worth in zip(rows, entry)}
+    found = {}
+    for choice in choices(database):
+        found[choice] = fractions.Fraction(1)
+        for (name, records), record in zip(groups(database), choice):
+            total = sum(weight[name[0], other] for other in records)
+            found[choice] *= fractions.Fraction(weight[name[0], record], total)
+    return found
+
+
+def pair(fraction):
+    return fraction.numerator, fraction.denominator
 
 
 def is_tree(database, query, answer, value, taken=()):

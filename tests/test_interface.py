@@ -37,12 +37,28 @@ INTERFACE = {
     'certain.trees': ('is_certain_tree(database, query, answer, value)', 'certain_tree(database, query, answer)'),
     'certain.exchanges': ('is_refuting(database, query, answer, value)', 'refuting_choice(database, query, answer)',
                           'exchange(database, query, answer, choice, other)'),
+    'certain.components': ('components(database, query, answer)',),
+    'certain.verdicts': ('decide(database, query, answer)', 'classify(database, query, answer)',
+                         'is_decision(database, query, answer, value)', 'certain_answers(database, query)',
+                         'open_answers(database, query)'),
+    'measure.shares': ('is_weights(database, value)', 'choice_share(database, choice, *, weights=None)',
+                       'answer_share(database, query, answer, *, weights=None)',
+                       'answer_shares(database, query, *, weights=None)',
+                       'expected_answers(database, query, *, weights=None)'),
+    'measure.bounds': ('is_pattern(schema, value)', 'count_range(database, pattern)',
+                       'sum_range(database, pattern, column)', 'minimum_range(database, pattern, column)',
+                       'maximum_range(database, pattern, column)', 'answer_range(database, query)'),
+    'settle.settlements': ('is_settlement(schema, value)', 'are_settlements(schema, value)',
+                           'admitted_records(database, settlements, table, key)',
+                           'settled_database(database, settlements)', 'disputed_groups(database, settlements)'),
 }
 CONSTANTS = {
     'base.schemas': {'MAX_TABLES': 6, 'MAX_COLUMNS': 4},
     'data.databases': {'MAX_RECORDS': 40, 'MAX_GROUP': 6},
     'query.queries': {'MAX_ATOMS': 4, 'MAX_HEAD': 4},
     'formula.formulas': {'MAX_DEPTH': 20, 'MAX_PARTS': 200, 'MAX_QUANTIFIERS': 8},
+    'certain.components': {'MAX_CHOICES': 4096},
+    'settle.settlements': {'MAX_SETTLEMENTS': 60},
 }
 
 

@@ -91,8 +91,8 @@ def _exchanged(atoms, values, taken, other):
         if not found:
             return mixed
         used = [owners[atom[0], record] for atom, record in zip(atoms, found[0][0])]
-        name = [name for name in used if mixed[name] != other[name]][0]
-        mixed[name] = other[name]
+        unlike = [owner for owner in used if mixed[owner] != other[owner]]
+        mixed[unlike[0]] = other[unlike[0]]
 
 
 def exchange(database, query, answer, choice, other):

@@ -1,0 +1,1 @@
+"""Shares of choices and answers, and bounds over all choices."""
