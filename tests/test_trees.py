@@ -136,6 +136,17 @@ class TestIsTree(Case):
             self.returns(False, is_certain_tree, M, query, (), ('group', 'rate', (), tuple(zip(rates, trees))))
         self.returns(True, is_certain_tree, M, query, (), ('group', 'rate', (), tuple(zip(rates, (tree,) * 3))))
 
+    def test_truth_values_beside_only_one_number(self):
+        for number in (0, 1):
+            database = (M[0], ((), ((number, 7, 'ann'),), ((7,), (8,))))
+            query = ((), (('pay', ('X', 7, 'P')),))
+            leaf, wrong = (('leaf', ((value, 7, 'ann'),)) for value in (number, bool(number)))
+            self.assertEqual(leaf, wrong)
+            for trees in ((leaf, leaf), (leaf, wrong), (wrong, leaf)):
+                tree = ('group', 'rate', (), tuple(zip(((7,), (8,)), trees)))
+                self.returns(wrong not in [each for each in trees if repr(each) == repr(wrong)], is_certain_tree,
+                             database, query, (), tree)
+
     def test_drawn_trees_against_the_definition(self):
         pick = random.Random(43)
         right = wrong = 0

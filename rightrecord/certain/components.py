@@ -90,8 +90,8 @@ def numbers_with(groups, names, part):
 
 
 def parts_within(parts, names):
-    """Return those of the parts that are not empty and lie in the named groups of a component."""
-    return [part for part in parts if part and part[0][0] in names]
+    """Return those of the parts, none of which is empty, that lie in the named groups of a component."""
+    return [part for part in parts if part[0][0] in names]
 
 
 def holding_numbers(groups, names, parts):

@@ -38,37 +38,35 @@ def count_range(database, pattern):
 
 def sum_range(database, pattern, column):
     """Return a range of the sum of the values of the fitting records in a column."""
-    check_database(database)
-    _check_pattern(database[0], pattern)
-    _check_column(database[0], pattern, column)
-    groups = database_groups(database)
-    fitting = _fitting_records(groups, pattern)
-    return _sum_range(groups, {name: [(record[column], record) for record in fitting[name]] for name in fitting})
+    fitting = _fitting_values(database, pattern, column)
+    return _sum_range(database_groups(database), fitting)
 
 
 def minimum_range(database, pattern, column):
     """Return a range of the smallest value of the fitting records in a column, or None if no record fits."""
-    check_database(database)
-    _check_pattern(database[0], pattern)
-    _check_column(database[0], pattern, column)
-    groups = database_groups(database)
-    fitting = _fitting_records(groups, pattern)
-    return _minimum_range(groups, {name: [(record[column], record) for record in fitting[name]] for name in fitting})
+    fitting = _fitting_values(database, pattern, column)
+    return _minimum_range(database_groups(database), fitting)
 
 
 def maximum_range(database, pattern, column):
     """Return a range of the greatest value of the fitting records in a column, or None if no record fits."""
+    fitting = _fitting_values(database, pattern, column)
+    negatives = {name: [(-amount, record) for amount, record in fitting[name]] for name in fitting}
+    found = _minimum_range(database_groups(database), negatives)
+    if found is None:
+        return None
+    # The greatest value is the negative of the smallest negative, so the bounds change their places.
+    least, greatest = found
+    return ((-greatest[0], greatest[1]), (-least[0], least[1]))
+
+
+def _fitting_values(database, pattern, column):
+    """Return a dict from each group of the pattern's table to the pairs (value in the column, fitting record)."""
     check_database(database)
     _check_pattern(database[0], pattern)
     _check_column(database[0], pattern, column)
-    groups = database_groups(database)
-    fitting = _fitting_records(groups, pattern)
-    # The greatest value is the negative of the smallest negative.
-    found = _minimum_range(groups, {name: [(-record[column], record) for record in fitting[name]] for name in fitting})
-    if found is None:
-        return None
-    least, greatest = found
-    return ((-greatest[0], greatest[1]), (-least[0], least[1]))
+    fitting = _fitting_records(database_groups(database), pattern)
+    return {name: [(record[column], record) for record in fitting[name]] for name in fitting}
 
 
 def _fitting_records(groups, pattern):
