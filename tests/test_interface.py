@@ -51,6 +51,17 @@ INTERFACE = {
     'settle.settlements': ('is_settlement(schema, value)', 'are_settlements(schema, value)',
                            'admitted_records(database, settlements, table, key)',
                            'settled_database(database, settlements)', 'disputed_groups(database, settlements)'),
+    'settle.influence': ('find_contrast(database, query, answer, table, key)',
+                         'is_contrast(database, query, answer, table, key, value)',
+                         'influential_groups(database, query, answer)'),
+    'settle.plans': ('is_plan(database, query, answer, value)', 'plan_cost(database, query, answer, plan)',
+                     'follow_plan(database, query, answer, plan, choice)'),
+    'settle.least': ('least_plan(database, query, answer)', 'least_cost(database, query, answer)',
+                     'find_guard(database, query, answer)', 'is_guard(database, query, answer, cost, value)'),
+    'sources.claims': ('is_claim(schema, value)', 'are_claims(schema, value)',
+                       'sources_of(schema, claims, table, record)'),
+    'sources.policies': ('is_policy(value)', 'counting_claims(schema, claims, policy)',
+                         "claimed_database(schema, claims, *, policy=('all',))"),
 }
 CONSTANTS = {
     'base.schemas': {'MAX_TABLES': 6, 'MAX_COLUMNS': 4},
@@ -59,6 +70,8 @@ CONSTANTS = {
     'formula.formulas': {'MAX_DEPTH': 20, 'MAX_PARTS': 200, 'MAX_QUANTIFIERS': 8},
     'certain.components': {'MAX_CHOICES': 4096},
     'settle.settlements': {'MAX_SETTLEMENTS': 60},
+    'settle.least': {'MAX_POSITIONS': 4096},
+    'sources.claims': {'MAX_CLAIMS': 200},
 }
 
 

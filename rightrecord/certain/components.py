@@ -58,19 +58,15 @@ def count_selections(groups, names):
     return count
 
 
+def largest_count(groups, sets):
+    """Return the greatest number of selections that one of the sets of names has, 0 if there is none."""
+    return max([count_selections(groups, names) for names in sets], default=0)
+
+
 def check_selections(groups, sets):
     """Raise TooMany if one of the sets of names has more selections than allowed."""
-    if any([count_selections(groups, names) > MAX_CHOICES for names in sets]):
+    if largest_count(groups, sets) > MAX_CHOICES:
         raise TooMany(MAX_CHOICES)
-
-
-def selection_at(groups, names, number):
-    """Return, as a dict from the names to records, the selection with a number; the last group changes fastest."""
-    selected = {}
-    for name in reversed(names):
-        number, at = divmod(number, len(groups[name]))
-        selected[name] = groups[name][at]
-    return selected
 
 
 def merged(selections):
@@ -78,25 +74,64 @@ def merged(selections):
     return {name: selection[name] for selection in selections for name in selection}
 
 
-def numbers_with(groups, names, part):
-    """Return, ascending, the numbers of the selections that take the records of a part."""
-    taken = dict(part)
-    numbers = [0]
-    for name in names:
-        records = groups[name]
-        places = [records.index(taken[name])] if name in taken else list(range(len(records)))
-        numbers = [number * len(records) + at for number in numbers for at in places]
-    return numbers
-
-
 def parts_within(parts, names):
     """Return those of the parts, none of which is empty, that lie in the named groups of a component."""
     return [part for part in parts if part[0][0] in names]
 
 
-def holding_numbers(groups, names, parts):
-    """Return a dict that has as keys the numbers of the selections that take all records of one of the parts."""
-    holding = {}
-    for part in parts:
-        holding.update({number: True for number in numbers_with(groups, names, part)})
-    return holding
+class Selections:
+    """The selections of one record from each of some groups, in the order of choices: the last group changes fastest.
+
+    A set of selections is an integer: its bit with the number of a selection tells whether it has this one.
+    """
+
+    def __init__(self, groups, names):
+        self.groups = groups
+        self.names = names
+        self.count = count_selections(groups, names)
+        self.every = (1 << self.count) - 1
+        self.steps = {}
+        self.takers = {}
+        step = self.count
+        for name in names:
+            round_length = step
+            step = step // len(groups[name])
+            self.steps[name] = step
+            # The records of a group take turns: each stands in as many selections in a row as the step says.
+            starts = self.every // ((1 << round_length) - 1)
+            for at, record in enumerate(groups[name]):
+                self.takers[name, record] = (starts * ((1 << step) - 1)) << (at * step)
+
+    def at(self, number):
+        """Return, as a dict from the names to records, the selection with a number."""
+        return {name: self.groups[name][number // self.steps[name] % len(self.groups[name])] for name in self.names}
+
+    def taking(self, part):
+        """Return the set of the selections that take all records of a part."""
+        found = self.every
+        for pair in part:
+            found = found & self.takers[pair]
+        return found
+
+    def holding(self, parts):
+        """Return the set of the selections that take all records of one of the parts at least."""
+        found = 0
+        for part in parts:
+            found = found | self.taking(part)
+        return found
+
+    def changing(self, name, chosen):
+        """Return a set of selections that take the first record of a group, and that enter or leave the chosen
+        set if they take another record of it."""
+        some = 0
+        common = self.every
+        for at, record in enumerate(self.groups[name]):
+            moved = (chosen & self.takers[name, record]) >> (at * self.steps[name])
+            some = some | moved
+            common = common & moved
+        return some & ~common
+
+
+def least_number(chosen):
+    """Return the number of the first selection of a set that is not empty."""
+    return (chosen & -chosen).bit_length() - 1

@@ -15,6 +15,19 @@ def is_certain_tree(database, query, answer, value):
     return TreeCheck(database, query, answer).needed(value, ()) == {}
 
 
+def has_zero_or_one(groups):
+    """Return whether a record of the groups has a number that equals True or False."""
+    items = [item for records in groups.values() for record in records for item in record]
+    return 0 in items or 1 in items
+
+
+def are_branches(value, records):
+    """Return whether the value is a tuple of one pair for each record, in order, that begins with this record."""
+    if not is_tuple(value, len(records), len(records)):
+        return False
+    return all([is_tuple(branch, 2, 2) and is_one_of(branch[0], (record,)) for branch, record in zip(value, records)])
+
+
 class TreeCheck:
     """What the trees for one answer are checked against."""
 
@@ -24,8 +37,7 @@ class TreeCheck:
         self.rows = rows_by_table(database)
         self.groups = database_groups(database)
         self.owners = conflict_owners(self.groups)
-        numbers = [item for records in self.groups.values() for record in records for item in record]
-        self.has_zero_or_one = 0 in numbers or 1 in numbers
+        self.has_zero_or_one = has_zero_or_one(self.groups)
 
     def needed(self, value, above):
         """Return a dict from each conflicting group whose branch a leaf still needs to the record of this branch.
@@ -50,13 +62,11 @@ class TreeCheck:
             return None
         name = (table, key)
         records = self.groups[name]
-        if not is_tuple(branches, len(records), len(records)):
+        if not are_branches(branches, records):
             return None
         needed = {}
         below = None
         for at, record in enumerate(records):
-            if not is_tuple(branches[at], 2, 2) or not is_one_of(branches[at][0], (record,)):
-                return None
             # Trees may share parts, so that a small value stands for a huge tree; equal neighbours are checked once.
             # But True equals 1: where a record has 0 or 1, equal trees may differ.
             if at == 0 or self.has_zero_or_one or branches[at][1] != branches[at - 1][1]:

@@ -2,8 +2,8 @@
 
 from rightrecord.attack.graphs import elimination_order
 from rightrecord.base.values import is_tuple
-from rightrecord.certain.components import (check_selections, conflict_parts, count_selections, find_components,
-                                            holding_numbers, merged, parts_within, selection_at)
+from rightrecord.certain.components import (MAX_CHOICES, Selections, check_selections, conflict_parts,
+                                            find_components, largest_count, least_number, merged, parts_within)
 from rightrecord.certain.exchanges import find_refuting, is_refuting, make_choice
 from rightrecord.certain.trees import find_tree, is_certain_tree
 from rightrecord.data.databases import check_database, conflict_owners, database_groups, rows_by_table
@@ -16,7 +16,12 @@ def decide(database, query, answer):
     check_database(database)
     check_query(database[0], query)
     check_answer(database[0], query, answer)
-    return Judge(database, query).decide(answer, find_witnesses(query, answer, rows_by_table(database)))
+    return find_decision(database, query, answer)
+
+
+def find_decision(database, query, answer):
+    """Return a decision for the answer; the arguments are valid."""
+    return judge_of(database, query).decide(answer, find_witnesses(query, answer, rows_by_table(database)))
 
 
 def classify(database, query, answer):
@@ -24,14 +29,19 @@ def classify(database, query, answer):
     return decide(database, query, answer)[0]
 
 
-class Judge:
-    """Decides the answers of one query on one database."""
+def judge_of(database, query):
+    """Return what decides the answers of a valid query on a valid database."""
+    return Judge(query, elimination_order(database[0], query), database_groups(database))
 
-    def __init__(self, database, query):
+
+class Judge:
+    """Decides the answers of one query, which has this elimination order or a cycle, on the records of groups."""
+
+    def __init__(self, query, order, groups):
         self.query = query
-        self.groups = database_groups(database)
-        self.owners = conflict_owners(self.groups)
-        self.order = elimination_order(database[0], query)
+        self.order = order
+        self.groups = groups
+        self.owners = conflict_owners(groups)
 
     def decide(self, answer, found):
         """Return a decision for an answer with these witnesses."""
@@ -42,12 +52,31 @@ class Judge:
             return ("certain", tree)
         return ("open", found[0], self._refuting(answer, found))
 
+    def kind(self, answer, found):
+        """Return the first element of the decision."""
+        if not found:
+            return "impossible"
+        return "open" if self.tree(answer, found) is None else "certain"
+
+    def is_small(self, found):
+        """Return whether the answer with these witnesses is decided without raising TooMany."""
+        return self.order is not None or largest_count(self.groups, self._split(found)[1]) <= MAX_CHOICES
+
+    def after(self, name, record):
+        """Return the judge of what is left where this record is the right one of its group."""
+        groups = {other: (record,) if other == name else self.groups[other] for other in self.groups}
+        return Judge(self.query, self.order, groups)
+
+    def _split(self, found):
+        """Return the parts of the witnesses in conflicting groups, and the components of their answer."""
+        parts = conflict_parts(self.query, self.owners, found)
+        return (parts, find_components(parts))
+
     def tree(self, answer, found):
         """Return a tree for an answer with these witnesses, or None if it is not certain."""
         if self.order is not None:
             return find_tree(self.query, answer, self.order, self.groups)
-        parts = conflict_parts(self.query, self.owners, found)
-        sets = find_components(parts)
+        parts, sets = self._split(found)
         check_selections(self.groups, sets)
         if () in parts:
             return ("leaf", parts[()])
@@ -58,18 +87,16 @@ class Judge:
 
     def _failing(self, parts, names):
         """Return the first selection of a component under which no witness holds, or None."""
-        holding = holding_numbers(self.groups, names, parts_within(parts, names))
-        for number in range(count_selections(self.groups, names)):
-            if number not in holding:
-                return selection_at(self.groups, names, number)
-        return None
+        selections = Selections(self.groups, names)
+        failing = selections.every & ~selections.holding(parts_within(parts, names))
+        return selections.at(least_number(failing)) if failing else None
 
     def _refuting(self, answer, found):
         """Return a choice that refutes an answer with these witnesses, which is not certain."""
         if self.order is not None:
             return find_refuting(self.query, answer, self.order, self.groups)
-        parts = conflict_parts(self.query, self.owners, found)
-        return make_choice(self.groups, merged([self._failing(parts, names) for names in find_components(parts)]))
+        parts, sets = self._split(found)
+        return make_choice(self.groups, merged([self._failing(parts, names) for names in sets]))
 
 
 def _split_tree(groups, ways):
@@ -112,18 +139,23 @@ def is_decision(database, query, answer, value):
 
 def certain_answers(database, query):
     """Return the certain answers, ascending."""
-    return tuple([answer for answer, is_certain in _judged(database, query) if is_certain])
+    return _answers_of_kind(database, query, "certain")
 
 
 def open_answers(database, query):
     """Return the open answers, ascending."""
-    return tuple([answer for answer, is_certain in _judged(database, query) if not is_certain])
+    return _answers_of_kind(database, query, "open")
 
 
-def _judged(database, query):
-    """Return the pairs of each possible answer, ascending, and whether it is certain."""
+def _answers_of_kind(database, query, kind):
     check_database(database)
     check_query(database[0], query)
-    judge = Judge(database, query)
+    kinds = answer_kinds(database, query)
+    return tuple([answer for answer in kinds if kinds[answer] == kind])
+
+
+def answer_kinds(database, query):
+    """Return a dict from each possible answer, ascending, to "certain" or "open"; the arguments are valid."""
+    judge = judge_of(database, query)
     found = witnesses_by_answer(query, rows_by_table(database))
-    return [(answer, judge.tree(answer, found[answer]) is not None) for answer in found]
+    return {answer: judge.kind(answer, found[answer]) for answer in found}

@@ -17,7 +17,7 @@ def is_database(value):
         return False
     if not all([_are_rows(entry, records) for entry, records in zip(schema, rows)]):
         return False
-    return _exceeded_limit(value) is None
+    return exceeded_limit(value) is None
 
 
 def _are_rows(entry, value):
@@ -28,8 +28,8 @@ def _are_rows(entry, value):
     return is_ascending(value)
 
 
-def _exceeded_limit(database):
-    """Return the first limit that the records exceed, or None."""
+def exceeded_limit(database):
+    """Return the first limit that the records of what may be a database exceed, or None."""
     if sum([len(records) for records in database[1]]) > MAX_RECORDS:
         return MAX_RECORDS
     groups = database_groups(database)
@@ -64,11 +64,16 @@ def _is_placed_record(schema, value):
 
 def build_database(schema, pairs):
     """Return the database with the records of the valid pairs, or raise TooMany."""
-    database = (schema, tuple([_rows_among(pairs, entry[0]) for entry in schema]))
-    limit = _exceeded_limit(database)
+    database = gathered_rows(schema, pairs)
+    limit = exceeded_limit(database)
     if limit is not None:
         raise TooMany(limit)
     return database
+
+
+def gathered_rows(schema, pairs):
+    """Return the schema with the records of the valid pairs, which is a database if no limit is exceeded."""
+    return (schema, tuple([_rows_among(pairs, entry[0]) for entry in schema]))
 
 
 def _rows_among(pairs, table):

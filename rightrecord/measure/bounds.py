@@ -2,8 +2,8 @@
 
 from rightrecord.base.schemas import find_table
 from rightrecord.base.values import is_integer_below
-from rightrecord.certain.components import (check_selections, conflict_parts, connected, count_selections,
-                                            holding_numbers, merged, parts_within, selection_at)
+from rightrecord.certain.components import (Selections, check_selections, conflict_parts, connected, merged,
+                                            parts_within)
 from rightrecord.certain.exchanges import make_choice
 from rightrecord.data.databases import check_database, conflict_owners, database_groups, rows_by_table
 from rightrecord.errors import InvalidNumber
@@ -141,11 +141,12 @@ def answer_range(database, query):
     lowest = []
     highest = []
     for names in blocks:
-        counts = _answer_counts(groups, names, unsure)
+        selections = Selections(groups, names)
+        counts = _answer_counts(selections, unsure)
         least += min(counts)
-        lowest.append(selection_at(groups, names, counts.index(min(counts))))
+        lowest.append(selections.at(counts.index(min(counts))))
         greatest += max(counts)
-        highest.append(selection_at(groups, names, counts.index(max(counts))))
+        highest.append(selections.at(counts.index(max(counts))))
     return ((least, make_choice(groups, merged(lowest))), (greatest, make_choice(groups, merged(highest))))
 
 
@@ -154,10 +155,8 @@ def _names_of(parts):
     return sorted({name for part in parts for name, _ in part})
 
 
-def _answer_counts(groups, names, unsure):
+def _answer_counts(selections, unsure):
     """Return a list of how many answers hold under each selection of a block."""
-    counts = [0] * count_selections(groups, names)
-    for parts in unsure:
-        for number in holding_numbers(groups, names, parts_within(parts, names)):
-            counts[number] += 1
-    return counts
+    held = [selections.holding(parts_within(parts, selections.names)) for parts in unsure]
+    held = [holding for holding in held if holding != 0]
+    return [sum([(holding >> number) & 1 for holding in held]) for number in range(selections.count)]

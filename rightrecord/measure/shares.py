@@ -3,7 +3,7 @@
 from math import gcd
 
 from rightrecord.base.values import is_tuple
-from rightrecord.certain.components import (check_selections, conflict_parts, find_components, holding_numbers,
+from rightrecord.certain.components import (Selections, check_selections, conflict_parts, find_components,
                                             parts_within)
 from rightrecord.data.choices import check_choice
 from rightrecord.data.databases import check_database, conflict_owners, database_groups, rows_by_table
@@ -122,5 +122,5 @@ class Scale:
         for name in names:
             weights = self._weights_of(name)
             products = [product * weight for product in products for weight in weights]
-        holding = holding_numbers(self.groups, names, parts)
-        return sum([product for number, product in enumerate(products) if number not in holding])
+        holding = Selections(self.groups, names).holding(parts)
+        return sum([product for number, product in enumerate(products) if (holding >> number) & 1 == 0])

@@ -1,1 +1,1 @@
-"""Settlements, which state that one of some records of a group is right."""
+"""Settlements, the groups that matter for an answer, and plans that tell which groups to settle."""

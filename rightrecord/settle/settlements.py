@@ -2,7 +2,7 @@
 
 from rightrecord.base.schemas import check_schema, check_table, find_table
 from rightrecord.base.values import has_kinds, is_ascending, is_tuple
-from rightrecord.data.databases import MAX_GROUP, build_database, check_database, check_group, database_groups
+from rightrecord.data.databases import MAX_GROUP, check_database, check_group, database_groups, gathered_rows
 from rightrecord.errors import InvalidSettlement
 
 MAX_SETTLEMENTS = 60
@@ -11,10 +11,11 @@ MAX_SETTLEMENTS = 60
 def is_settlement(schema, value):
     """Return whether the value is a settlement for the schema."""
     check_schema(schema)
-    return _is_settlement(schema, value)
+    return fits_settlement(schema, value)
 
 
-def _is_settlement(schema, value):
+def fits_settlement(schema, value):
+    """Return whether the value is a settlement for the valid schema."""
     if not is_tuple(value, 3, 3):
         return False
     table, key, records = value
@@ -30,24 +31,26 @@ def _is_settlement(schema, value):
 def are_settlements(schema, value):
     """Return whether the value is settlements for the schema."""
     check_schema(schema)
-    return _are_settlements(schema, value)
+    return fit_settlements(schema, value)
 
 
-def _are_settlements(schema, value):
+def fit_settlements(schema, value):
+    """Return whether the value is settlements for the valid schema."""
     if not is_tuple(value, 0, MAX_SETTLEMENTS):
         return False
-    return all([_is_settlement(schema, item) for item in value]) and is_ascending(value)
+    return all([fits_settlement(schema, item) for item in value]) and is_ascending(value)
 
 
-def _check_settlements(schema, settlements):
-    if not _are_settlements(schema, settlements):
+def check_settlements(schema, settlements):
+    """Raise InvalidSettlement if they are not settlements for the valid schema."""
+    if not fit_settlements(schema, settlements):
         raise InvalidSettlement("not settlements for the schema")
 
 
 def admitted_records(database, settlements, table, key):
     """Return the admitted records of a group, ascending."""
     check_database(database)
-    _check_settlements(database[0], settlements)
+    check_settlements(database[0], settlements)
     check_table(database[0], table)
     check_group(database, table, key)
     records = database_groups(database)[table, key]
@@ -63,18 +66,28 @@ def _settled_records(settlements, name, records):
 def settled_database(database, settlements):
     """Return the database of the admitted records of all groups."""
     check_database(database)
-    _check_settlements(database[0], settlements)
+    check_settlements(database[0], settlements)
+    return find_settled(database, settlements)
+
+
+def find_settled(database, settlements):
+    """Return the database of the admitted records of all groups; the arguments are valid."""
     groups = database_groups(database)
     pairs = []
     for name in groups:
         admitted = _settled_records(settlements, name, groups[name]) or groups[name]
         pairs.extend([(name[0], record) for record in admitted])
-    return build_database(database[0], pairs)
+    return gathered_rows(database[0], pairs)
 
 
 def disputed_groups(database, settlements):
     """Return the names of the disputed groups, ascending."""
     check_database(database)
-    _check_settlements(database[0], settlements)
+    check_settlements(database[0], settlements)
+    return find_disputed(database, settlements)
+
+
+def find_disputed(database, settlements):
+    """Return the names of the disputed groups, ascending; the arguments are valid."""
     groups = database_groups(database)
     return tuple([name for name in groups if _settled_records(settlements, name, groups[name]) == ()])

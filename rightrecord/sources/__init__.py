@@ -1,0 +1,1 @@
+"""Claims of sources, and policies that state which of them count."""
