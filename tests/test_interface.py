@@ -62,6 +62,25 @@ INTERFACE = {
                        'sources_of(schema, claims, table, record)'),
     'sources.policies': ('is_policy(value)', 'counting_claims(schema, claims, policy)',
                          "claimed_database(schema, claims, *, policy=('all',))"),
+    'reports.reports': ('is_report(schema, value)', 'step_kinds(schema, report, step)',
+                        'report_results(database, report, choice)', 'report_bounds(database, report)',
+                        'exact_bounds(database, report)'),
+    'text.formats': ('format_schema(schema)', 'format_record(schema, table, record)', 'format_query(schema, query)',
+                     'format_settlement(schema, settlement)', 'format_policy(policy)', 'parse_schema(text)',
+                     'parse_record(schema, text)', 'parse_query(schema, text)', 'parse_settlement(schema, text)',
+                     'parse_policy(text)'),
+}
+CLASSES = {
+    'desk.desk': ("Desk(schema, *, policy=('all',), claims=(), settlements=())", 'schema()', 'claims()', 'settlements()',
+                  'policy()', 'database()', 'watched()', 'disputed()', 'log()', '__len__()', '__str__()', '__eq__(other)',
+                  'claim(table, record, source)', 'withdraw(table, record, source)', 'settle(table, key, records)',
+                  'release(table, key, records)', 'set_policy(policy)', 'watch(name, query)', 'unwatch(name)',
+                  'apply(operation)', 'apply_all(operations)', 'undo()', 'classes(name)', 'decide(name, answer)'),
+    'desk.replicas': ("Replica(schema, *, policy=('all',))", 'claims()', 'settlements()', 'database()', 'desk()',
+                      '__len__()', '__str__()', '__eq__(other)', 'make_claim(table, record, source)',
+                      'withdraw_claim(table, record, source)', 'make_settlement(table, key, records)',
+                      'release_settlement(table, key, records)', 'message()', 'receive(message)', 'missing(message)'),
+    'text.shell': ('Shell()', 'desk()', '__len__()', '__str__()', '__eq__(other)', 'run(command)', 'run_all(commands)'),
 }
 CONSTANTS = {
     'base.schemas': {'MAX_TABLES': 6, 'MAX_COLUMNS': 4},
@@ -72,6 +91,8 @@ CONSTANTS = {
     'settle.settlements': {'MAX_SETTLEMENTS': 60},
     'settle.least': {'MAX_POSITIONS': 4096},
     'sources.claims': {'MAX_CLAIMS': 200},
+    'reports.reports': {'MAX_STEPS': 8},
+    'desk.desk': {'MAX_WATCHED': 6},
 }
 
 
@@ -86,6 +107,19 @@ class TestInterface(unittest.TestCase):
                     function = getattr(module, name)
                     self.assertEqual(name + str(inspect.signature(function)), text)
                     self.assertEqual(function.__module__, module.__name__)
+
+    def test_each_class(self):
+        for file, texts in CLASSES.items():
+            module = importlib.import_module('rightrecord.' + file)
+            kind = getattr(module, texts[0].partition('(')[0])
+            self.assertEqual(kind.__module__, module.__name__)
+            self.assertEqual(kind.__name__ + str(inspect.signature(kind)), texts[0])
+            for text in texts[1:]:
+                with self.subTest(module=file, method=text):
+                    # Each method is defined in the class itself.
+                    method = vars(kind)[text.partition('(')[0]]
+                    parameters = ', '.join(['self'] + [part for part in [text.partition('(')[2][:-1]] if part])
+                    self.assertEqual(str(inspect.signature(method)), f'({parameters})')
 
     def test_each_constant(self):
         for file, constants in CONSTANTS.items():

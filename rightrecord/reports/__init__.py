@@ -1,0 +1,1 @@
+"""Reports of several steps over the answers of queries."""
