@@ -66,7 +66,8 @@ class TestForm(Case):
             claims = many(records, sources, group)
             self.assertLessEqual(len(claims), 200)
             self.returns(True, are_claims, S, claims)
-        for claims in (many(41, 1), many(41, 4, 6), many(7, 1, 7), many(7, 26, 7), many(40, 5) + (('job', ('zz', 'z'), 'a'),),
+        for claims in (many(41, 1), many(41, 4, 6), many(7, 1, 7), many(7, 26, 7),
+                       many(40, 5) + (('job', ('zz', 'z'), 'a'),),
                        many(40, 5)[:-1] + (('job', ('zz', 'z'), 'a'),), many(34, 6), many(8, 26)[:201]):
             self.returns(False, are_claims, S, claims)
             self.fails(InvalidClaims('why'), sources_of, S, claims, 'job', ('aa', 'aa'))

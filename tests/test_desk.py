@@ -59,9 +59,11 @@ class TestState(Desks):
 
     def test_the_first_state(self):
         desk = Desk(S)
-        self.assertEqual(self.show(desk), (S, (), (), ('all',), EMPTY, {}, (), (), 0, 'desk with 0 claims, 0 settlements', []))
+        self.assertEqual(self.show(desk), (S, (), (), ('all',), EMPTY, {}, (), (), 0,
+                                           'desk with 0 claims, 0 settlements', []))
         full = Desk(S, policy=('votes',), claims=K, settlements=(LYON, NICE))
-        self.assertEqual((full.claims(), full.settlements(), full.policy(), full.watched(), full.log(), len(full), str(full)),
+        self.assertEqual((full.claims(), full.settlements(), full.policy(), full.watched(), full.log(), len(full),
+                          str(full)),
                          (K, (LYON, NICE), ('votes',), {}, (), 5, 'desk with 5 claims, 2 settlements'))
         self.assertEqual(full.disputed(), (('job', ('ann',)),))
         self.assertEqual(full.database(), claimed_database(S, K))
@@ -73,7 +75,8 @@ class TestState(Desks):
     def test_a_settlement_of_claims_that_do_not_count(self):
         """The records of a group are those of the counting claims."""
         desk = Desk(S, policy=('ranks', ('eve',)), claims=K, settlements=(NICE,))
-        self.assertEqual((desk.disputed(), desk.database()[1][1]), ((('job', ('ann',)),), (('ann', 'lyon'), ('bob', 'lyon'))))
+        self.assertEqual((desk.disputed(), desk.database()[1][1]),
+                         ((('job', ('ann',)),), (('ann', 'lyon'), ('bob', 'lyon'))))
         desk.set_policy(('all',))
         self.assertEqual((desk.disputed(), desk.database()[1][1]), ((), (('ann', 'nice'), ('bob', 'lyon'))))
 
@@ -148,16 +151,20 @@ class TestOperations(Desks):
         self.assertEqual(desk.settle(*LYON), (('home', ('ann', 'gaul'), 'open', 'certain'),))
         self.assertEqual(desk.claim('city', ('nice', 'gaul'), 'tom'), ())
         self.assertEqual(desk.release(*LYON), ())
-        self.assertEqual(desk.withdraw('city', ('nice', 'gaul'), 'tom'), (('home', ('ann', 'gaul'), 'certain', 'open'),))
+        self.assertEqual(desk.withdraw('city', ('nice', 'gaul'), 'tom'),
+                         (('home', ('ann', 'gaul'), 'certain', 'open'),))
         self.assertEqual(desk.withdraw('city', ('lyon', 'gaul'), 'eve'),
-                         (('home', ('ann', 'gaul'), 'open', 'impossible'), ('home', ('bob', 'gaul'), 'certain', 'impossible')))
+                         (('home', ('ann', 'gaul'), 'open', 'impossible'),
+                          ('home', ('bob', 'gaul'), 'certain', 'impossible')))
         self.assertEqual(desk.claim('city', ('lyon', 'eire'), 'eve'),
-                         (('home', ('ann', 'eire'), 'impossible', 'open'), ('home', ('bob', 'eire'), 'impossible', 'certain')))
+                         (('home', ('ann', 'eire'), 'impossible', 'open'),
+                          ('home', ('bob', 'eire'), 'impossible', 'certain')))
         self.assertEqual(desk.set_policy(('ranks', ('tom',))), (('home', ('ann', 'eire'), 'open', 'impossible'),))
         self.assertEqual(desk.set_policy(('ranks', ('tom',))), ())
         self.assertEqual(desk.log()[6:], (
             ('settle', LYON), ('claim', ('city', ('nice', 'gaul'), 'tom')), ('release', LYON),
-            ('withdraw', ('city', ('nice', 'gaul'), 'tom')), ('withdraw', K[1]), ('claim', ('city', ('lyon', 'eire'), 'eve')),
+            ('withdraw', ('city', ('nice', 'gaul'), 'tom')), ('withdraw', K[1]),
+            ('claim', ('city', ('lyon', 'eire'), 'eve')),
             ('policy', ('ranks', ('tom',))), ('policy', ('ranks', ('tom',)))))
         self.assertEqual(desk.unwatch('home'), ())
         self.assertEqual(desk.log()[-1], ('unwatch', 'home'))
@@ -206,7 +213,8 @@ class TestOperations(Desks):
                     self.assertEqual(repr(call(*arguments)), repr(expected))
                 self.compare(book, desk)
                 word = operations[0][0] if kind == 'single' else kind
-                for key in ((kind, type(expected).__name__, expected == ()), (word, type(expected).__name__, expected == ())):
+                for key in ((kind, type(expected).__name__, expected == ()),
+                            (word, type(expected).__name__, expected == ())):
                     counts[key] = counts.get(key, 0) + 1
         for key in (('undo', 'tuple', False), ('group', 'tuple', False), ('single', 'tuple', False),
                     ('group', 'InvalidOperation', False), ('single', 'InvalidOperation', False),
@@ -277,7 +285,8 @@ class TestOperations(Desks):
     def test_the_errors_of_policies_and_watched_queries(self):
         desk = Desk(S, claims=K)
         desk.watch('home', Q)
-        for policy in list(STRANGE) + [('all', ()), ('ranks', ('a', 'a')), ('chain', (('all',),)), ('trusted', ('b', 'a'))]:
+        for policy in list(STRANGE) + [('all', ()), ('ranks', ('a', 'a')), ('chain', (('all',),)),
+                                       ('trusted', ('b', 'a'))]:
             self.refused(InvalidPolicy('why'), desk, 'set_policy', policy)
             self.refused(InvalidPolicy('why'), desk, 'apply', ('policy', policy))
         for name in ('home', 'Home', '', 'abcdefghi', 'a b', None, True, 1, ('home',), ['home'], {}, [[]]):
@@ -296,8 +305,10 @@ class TestOperations(Desks):
         desk = Desk(S, claims=K)
         desk.watch('home', Q)
         pairs = [('claim', K[0] + ((),)), ('claim', K[0][:2]), ('claim', ()), ('claim', None), ('claim', list(K[0])),
-                 ('withdraw', K[0][:2]), ('settle', LYON + ((),)), ('settle', 'abc'), ('release', {}), ('release', (1, 2)),
-                 ('watch', ('town',)), ('watch', ('town', Q, ())), ('watch', 'ab'), ('watch', ['town', Q]), ('watch', None),
+                 ('withdraw', K[0][:2]), ('settle', LYON + ((),)), ('settle', 'abc'), ('release', {}),
+                 ('release', (1, 2)),
+                 ('watch', ('town',)), ('watch', ('town', Q, ())), ('watch', 'ab'), ('watch', ['town', Q]),
+                 ('watch', None),
                  ('undo', ()), ('Claim', K[0]), ('', K[0]), (None, K[0]), (True, K[0]), ([], K[0]), ({}, K[0]),
                  ('claims', K[0]), ('set_policy', ('all',)), (('claim',), K[0]), ('claim',) + K[3], ('policy',),
                  ('unwatch',), ['claim', K[3]], ('unwatch', 'home', ()), {'claim': K[3]}, (Desk(S), K[3])]
@@ -314,11 +325,14 @@ class TestGroups(Desks):
         desk = Desk(S, claims=K[:1])
         desk.watch('home', Q)
         for operations, error in (
-                (O[1:5] + (O[1],), InvalidOperation('why')), ((('unwatch', 'home'), ('unwatch', 'home')), UnknownName('home')),
-                (O[1:5] + (('settle', ()),), InvalidOperation('why')), (O[1:3] + (('settle', (1, 2, 3)),), InvalidSettlement('')),
+                (O[1:5] + (O[1],), InvalidOperation('why')),
+                ((('unwatch', 'home'), ('unwatch', 'home')), UnknownName('home')),
+                (O[1:5] + (('settle', ()),), InvalidOperation('why')),
+                (O[1:3] + (('settle', (1, 2, 3)),), InvalidSettlement('')),
                 ((('claim', (1, 2, 3)), ('nothing', 1)), InvalidClaims('why')), ((('nothing', 1), ('claim', (1, 2, 3))),
                                                                                InvalidOperation('why')),
-                ((('policy', None), None), InvalidPolicy('')), ((('withdraw', K[0]), ('withdraw', K[0])), InvalidOperation(''))):
+                ((('policy', None), None), InvalidPolicy('')),
+                ((('withdraw', K[0]), ('withdraw', K[0])), InvalidOperation(''))):
             self.refused(error, desk, 'apply_all', operations)
         # Each operation is asked in the state that the ones before it have made.
         self.assertEqual(desk.apply_all((('withdraw', K[0]), ('claim', K[0]))), ())

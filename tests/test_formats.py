@@ -16,17 +16,20 @@ BOB = ('job', ('bob',), (('bob', 'cork'), ('bob', 'lyon')))
 ONE = (('a', 0, ('number',)),)
 THREE = ('chain', (('chain', (('all',), ('ranks', ('tom', 'eve')))), ('votes',), ('trusted', ('a', 'abcdefgh'))))
 NOT_STRINGS = tuple(value for value in STRANGE if type(value) is not str) + (b'all', b'', ['all'], ('all',), S, Q, BOB)
-LONG = ('a' * 10 ** 6, '1' * 10 ** 6, '-' * 10 ** 5, ',' * 10 ** 5, ' ' * 10 ** 5, 'job(' * 10 ** 5, 'chain ( ' * 10 ** 5,
-        'chain ( all ; ' * 10 ** 5, 'chain ( all' + ' ; all' * 10 ** 5 + ' )', 'ranks ' + 'a,' * 10 ** 5, 'job(' + 'a,' * 10 ** 5 + 'a)',
+LONG = ('a' * 10 ** 6, '1' * 10 ** 6, '-' * 10 ** 5, ',' * 10 ** 5, ' ' * 10 ** 5, 'job(' * 10 ** 5,
+        'chain ( ' * 10 ** 5,
+        'chain ( all ; ' * 10 ** 5, 'chain ( all' + ' ; all' * 10 ** 5 + ' )', 'ranks ' + 'a,' * 10 ** 5,
+        'job(' + 'a,' * 10 ** 5 + 'a)',
         'job(a,' + '9' * 10 ** 5 + ')', 'P <- ' + 'job(P,T) ' * 10 ** 4, 'P,' * 10 ** 5 + 'P <- job(P,T)',
-        'job(bob,cork) | ' * 10 ** 4, 'a/1(name) ' * 10 ** 4, 'a/' + '1' * 10 ** 5 + '(name)', 'a/1(' + 'name,' * 10 ** 5 + 'name)',
+        'job(bob,cork) | ' * 10 ** 4, 'a/1(name) ' * 10 ** 4, 'a/' + '1' * 10 ** 5 + '(name)',
+        'a/1(' + 'name,' * 10 ** 5 + 'name)',
         ')' * 10 ** 5, 'chain ( ' * 500 + 'all' + ' )' * 500)
 
 
 class Texts(Case):
 
     def both_ways(self, text, value, formatted, parse):
-        """The value has this text, and the text this value; formatted and parse are lists of a function and arguments."""
+        """The value has this text, and the text this value; both functions come in lists with their arguments."""
         self.returns(text, *formatted)
         self.returns(value, parse[0], *parse[1:], text)
 
@@ -55,7 +58,8 @@ class TestFormats(Texts):
 
     def test_records(self):
         for schema, table, record, text in (
-                (S, 'job', ('ann', 'rome'), 'job(ann,rome)'), (N, 'rate', (0,), 'rate(0)'), (N, 'rate', (-5,), 'rate(-5)'),
+                (S, 'job', ('ann', 'rome'), 'job(ann,rome)'), (N, 'rate', (0,), 'rate(0)'),
+                (N, 'rate', (-5,), 'rate(-5)'),
                 (N, 'pay', (10 ** 9, -(10 ** 9), 'abcdefgh'), 'pay(1000000000,-1000000000,abcdefgh)')):
             self.both_ways(text, (table, record), [format_record, schema, table, record], [parse_record, schema])
 
@@ -78,8 +82,10 @@ class TestFormats(Texts):
 
     def test_policies(self):
         for policy, text in (
-                (('all',), 'all'), (('votes',), 'votes'), (('ranks', ('tom', 'eve')), 'ranks tom,eve'), (('ranks', ('a',)), 'ranks a'),
-                (('trusted', ('eve', 'tom')), 'trusted eve,tom'), (('ranks', tuple('hgfedcba')), 'ranks h,g,f,e,d,c,b,a'),
+                (('all',), 'all'), (('votes',), 'votes'), (('ranks', ('tom', 'eve')), 'ranks tom,eve'),
+                (('ranks', ('a',)), 'ranks a'),
+                (('trusted', ('eve', 'tom')), 'trusted eve,tom'),
+                (('ranks', tuple('hgfedcba')), 'ranks h,g,f,e,d,c,b,a'),
                 (('chain', (('all',), ('votes',))), 'chain ( all ; votes )'),
                 (('chain', (('all',),) * 4), 'chain ( all ; all ; all ; all )'),
                 # The words of the form may be sources, too.
@@ -121,7 +127,9 @@ class TestParsing(Texts):
         self.assertGreater(accepted, 20)
 
     def test_edits_of_records(self):
-        for schema, texts in ((S, ('job(ann,rome)',)), (N, ('rate(0)', 'rate(-5)', 'rate(1000000000)', 'pay(10,-999999999,bob)',
+        for schema, texts in ((S, ('job(ann,rome)',)), (N,
+                                                        ('rate(0)', 'rate(-5)', 'rate(1000000000)',
+                                                         'pay(10,-999999999,bob)',
                                                           'full(ann,100)'))):
             for text in texts:
                 self.assertGreater(self.each_edit(text, [parse_record, schema],
@@ -135,7 +143,8 @@ class TestParsing(Texts):
                                                   lambda other, own=schema: text_oracle.query(own, other)), 2)
 
     def test_edits_of_settlements(self):
-        for schema, texts in ((S, ('job(bob,cork) | job(bob,lyon)', 'job(bob,cork)')), (N, ('rate(-10) | rate(0)', 'full(ann,1)'))):
+        for schema, texts in ((S, ('job(bob,cork) | job(bob,lyon)', 'job(bob,cork)')),
+                              (N, ('rate(-10) | rate(0)', 'full(ann,1)'))):
             for text in texts:
                 self.assertGreater(self.each_edit(text, [parse_settlement, schema],
                                                   lambda other, own=schema: text_oracle.settlement(own, other)), 2)
@@ -147,50 +156,78 @@ class TestParsing(Texts):
         self.assertGreater(accepted, 50)
 
     def test_samples(self):
-        for text in ('', ' ', '-', 'all ', ' all', 'all  ', 'ALL', 'all\n', '\nall', 'ranks', 'ranks ', 'ranks -', 'ranks  tom',
-                     'ranks tom, eve', 'ranks tom,tom', 'trusted tom,eve', 'ranks a,b,c,d,e,f,g,h,i', 'chain', 'chain (', 'chain ( )',
-                     'chain ( all )', 'chain (all ; votes)', 'chain ( all ; )', 'chain ( ; all )', 'chain ( all ; votes ) ',
+        for text in ('', ' ', '-', 'all ', ' all', 'all  ', 'ALL', 'all\n', '\nall', 'ranks', 'ranks ', 'ranks -',
+                     'ranks  tom',
+                     'ranks tom, eve', 'ranks tom,tom', 'trusted tom,eve', 'ranks a,b,c,d,e,f,g,h,i', 'chain',
+                     'chain (', 'chain ( )',
+                     'chain ( all )', 'chain (all ; votes)', 'chain ( all ; )', 'chain ( ; all )',
+                     'chain ( all ; votes ) ',
                      'chain ( all; votes )', 'chain ( all ;votes )', 'chain  ( all ; votes )', 'chain ( all ; votes',
-                     'chain ( all ; votes ) )', 'chain ( all ; votes ; )', 'chain ( all ; votes ) all', 'all all', 'all ; votes',
-                     'chain ( all votes )', 'chain ( all ; all ; all ; all ; all )', '( all ; votes )', 'ranks Tom', 'votes 1',
+                     'chain ( all ; votes ) )', 'chain ( all ; votes ; )', 'chain ( all ; votes ) all', 'all all',
+                     'all ; votes',
+                     'chain ( all votes )', 'chain ( all ; all ; all ; all ; all )', '( all ; votes )', 'ranks Tom',
+                     'votes 1',
                      'chain ( chain ( chain ( all ; all ) ; all ) ; all )', 'chain ( all ; chain ( all ; all ) )x'):
             self.fails(ParseError('why'), parse_policy, text)
-        for text in ('', ' ', 'job', 'job()', 'job(-)', 'job(ann)', 'job(ann,rome', 'job(ann,rome))', 'job(ann,rome) ', ' job(ann,rome)',
-                     'job(ann, rome)', 'job (ann,rome)', 'job( ann,rome)', 'job(ann,Rome)', 'job(ann,T)', 'job(ann,1)', 'jobs(ann,rome)',
-                     'job(ann,,rome)', 'job(ann,rome,)', 'job(,ann,rome)', 'job(ann,rome)\n', 'job(ann;rome)', 'Job(ann,rome)',
-                     'job((ann,rome)', 'job(ann,abcdefghi)', 'job[ann,rome]', 'city(ann)', 'job(ann,rome)job(ann,rome)', '(ann,rome)'):
+        for text in ('', ' ', 'job', 'job()', 'job(-)', 'job(ann)', 'job(ann,rome', 'job(ann,rome))', 'job(ann,rome) ',
+                     ' job(ann,rome)',
+                     'job(ann, rome)', 'job (ann,rome)', 'job( ann,rome)', 'job(ann,Rome)', 'job(ann,T)', 'job(ann,1)',
+                     'jobs(ann,rome)',
+                     'job(ann,,rome)', 'job(ann,rome,)', 'job(,ann,rome)', 'job(ann,rome)\n', 'job(ann;rome)',
+                     'Job(ann,rome)',
+                     'job((ann,rome)', 'job(ann,abcdefghi)', 'job[ann,rome]', 'city(ann)', 'job(ann,rome)job(ann,rome)',
+                     '(ann,rome)'):
             self.fails(ParseError('why'), parse_record, S, text)
-        for text in ('rate(00)', 'rate(01)', 'rate(-0)', 'rate(+1)', 'rate(-01)', 'rate(--1)', 'rate(-)', 'rate()', 'rate(1000000001)',
-                     'rate(-1000000001)', 'rate(9999999999)', 'rate(00000000001)', 'rate(12345678901)', 'rate(1_000)', 'rate(1.0)',
-                     'rate(1e3)', 'rate( 1)', 'rate(1 )', 'rate(0x1)', 'rate(' + '0' * 20 + ')', 'rate(' + '1' * 5000 + ')', 'rate(a)',
+        for text in ('rate(00)', 'rate(01)', 'rate(-0)', 'rate(+1)', 'rate(-01)', 'rate(--1)', 'rate(-)', 'rate()',
+                     'rate(1000000001)',
+                     'rate(-1000000001)', 'rate(9999999999)', 'rate(00000000001)', 'rate(12345678901)', 'rate(1_000)',
+                     'rate(1.0)',
+                     'rate(1e3)', 'rate( 1)', 'rate(1 )', 'rate(0x1)', 'rate(' + '0' * 20 + ')',
+                     'rate(' + '1' * 5000 + ')', 'rate(a)',
                      'rate(X)', 'rate(True)', 'rate(1-)', 'rate(1,1)', 'pay(1,2)', 'pay(1,2,3)', 'pay(ann,2,bob)'):
             self.fails(ParseError('why'), parse_record, N, text)
 
     def test_queries_that_are_none(self):
-        for text in ('', '-', '<-', '- <-', '- <- ', ' <- job(P,T)', '<- job(P,T)', 'P job(P,T)', 'P <-job(P,T)', 'P<- job(P,T)',
-                     'P <- job(P,T) ', ' P <- job(P,T)', 'P  <- job(P,T)', 'P <-  job(P,T)', 'P <- job(P,T)  city(T,C)', 'P,P <- job(P,T)',
-                     'X <- job(P,T)', 'p <- job(P,T)', 'P -> job(P,T)', 'P <- job(P,T) <- city(T,C)', 'P <- job(P,T),city(T,C)',
-                     'P, T <- job(P,T)', 'P <- job(P,T) job(T,C)', 'P <- jobs(P,T)', 'P <- job(P)', 'P <- job(P,T,C)', 'P <- job(P,1)',
-                     '-,P <- job(P,T)', 'P,- <- job(P,T)', '1 <- job(P,T)', 'P <- job(ABCDE,P)', 'P <= job(P,T)', 'P <- job(P,T)\n',
-                     'P <- job(P,T) city', 'P <- ', 'P', 'P <- job(P,-)', 'P xx job(P,T)', 'P,,T <- job(P,T)', '- -- job(P,T)'):
+        for text in ('', '-', '<-', '- <-', '- <- ', ' <- job(P,T)', '<- job(P,T)', 'P job(P,T)', 'P <-job(P,T)',
+                     'P<- job(P,T)',
+                     'P <- job(P,T) ', ' P <- job(P,T)', 'P  <- job(P,T)', 'P <-  job(P,T)', 'P <- job(P,T)  city(T,C)',
+                     'P,P <- job(P,T)',
+                     'X <- job(P,T)', 'p <- job(P,T)', 'P -> job(P,T)', 'P <- job(P,T) <- city(T,C)',
+                     'P <- job(P,T),city(T,C)',
+                     'P, T <- job(P,T)', 'P <- job(P,T) job(T,C)', 'P <- jobs(P,T)', 'P <- job(P)', 'P <- job(P,T,C)',
+                     'P <- job(P,1)',
+                     '-,P <- job(P,T)', 'P,- <- job(P,T)', '1 <- job(P,T)', 'P <- job(ABCDE,P)', 'P <= job(P,T)',
+                     'P <- job(P,T)\n',
+                     'P <- job(P,T) city', 'P <- ', 'P', 'P <- job(P,-)', 'P xx job(P,T)', 'P,,T <- job(P,T)',
+                     '- -- job(P,T)'):
             self.fails(ParseError('why'), parse_query, S, text)
 
     def test_settlements_that_are_none(self):
-        for text in ('', '-', '|', 'job(bob,lyon) | job(bob,cork)', 'job(bob,cork) | job(bob,cork)', 'job(bob,cork)|job(bob,lyon)',
-                     'job(bob,cork)  | job(bob,lyon)', 'job(bob,cork) |  job(bob,lyon)', 'job(bob,cork) | ', ' | job(bob,cork)',
-                     'job(bob,cork) | job(ann,lyon)', 'job(bob,cork) | city(bob,lyon)', 'city(bob,cork) | job(bob,lyon)', 'jobs(bob,cork)',
-                     'job(bob,cork) job(bob,lyon)', 'job(bob,cork) ; job(bob,lyon)', 'job(bob,cork) | job(bob,lyon)\n', 'job(bob)',
-                     ' | '.join(f'job(bob,{letter})' for letter in 'abcdefg'), 'job(bob,cork) | (bob,lyon)', 'job(bob,cork) | lyon'):
+        for text in ('', '-', '|', 'job(bob,lyon) | job(bob,cork)', 'job(bob,cork) | job(bob,cork)',
+                     'job(bob,cork)|job(bob,lyon)',
+                     'job(bob,cork)  | job(bob,lyon)', 'job(bob,cork) |  job(bob,lyon)', 'job(bob,cork) | ',
+                     ' | job(bob,cork)',
+                     'job(bob,cork) | job(ann,lyon)', 'job(bob,cork) | city(bob,lyon)',
+                     'city(bob,cork) | job(bob,lyon)', 'jobs(bob,cork)',
+                     'job(bob,cork) job(bob,lyon)', 'job(bob,cork) ; job(bob,lyon)', 'job(bob,cork) | job(bob,lyon)\n',
+                     'job(bob)',
+                     ' | '.join(f'job(bob,{letter})' for letter in 'abcdefg'), 'job(bob,cork) | (bob,lyon)',
+                     'job(bob,cork) | lyon'):
             self.fails(ParseError('why'), parse_settlement, S, text)
         self.fails(ParseError('why'), parse_settlement, N, 'rate(-5) | rate(-7)')
         self.fails(ParseError('why'), parse_settlement, N, 'rate(0) | rate(00)')
 
     def test_schemas_that_are_none(self):
-        for text in ('', '-', 'a', 'a/1', 'a/1()', 'a/1(-)', 'a/0(-)', 'a/2(name)', 'a/-1(name)', 'a/01(name)', 'a/+1(name)', 'a/1(name',
-                     'a/1(names)', 'a/1(name )', 'a/1( name)', 'a/ 1(name)', 'a /1(name)', 'A/1(name)', 'abcdefghi/1(name)', 'a/1(name) ',
-                     ' a/1(name)', 'a/1(name)  b/1(name)', 'b/1(name) a/1(name)', 'a/1(name) a/1(name)', 'a/1(name),b/1(name)',
-                     'a/1(name,name,name,name,name)', 'a/1(name;name)', 'a/1(name)\n', '/1(name)', 'a//1(name)', 'a/one(name)', 'a/name(1)',
-                     ' '.join(f'{letter}/0(name)' for letter in 'abcdefg'), 'a/1(Name)', 'a/1((name)', 'a/1(name))', 'a/True(name)'):
+        for text in ('', '-', 'a', 'a/1', 'a/1()', 'a/1(-)', 'a/0(-)', 'a/2(name)', 'a/-1(name)', 'a/01(name)',
+                     'a/+1(name)', 'a/1(name',
+                     'a/1(names)', 'a/1(name )', 'a/1( name)', 'a/ 1(name)', 'a /1(name)', 'A/1(name)',
+                     'abcdefghi/1(name)', 'a/1(name) ',
+                     ' a/1(name)', 'a/1(name)  b/1(name)', 'b/1(name) a/1(name)', 'a/1(name) a/1(name)',
+                     'a/1(name),b/1(name)',
+                     'a/1(name,name,name,name,name)', 'a/1(name;name)', 'a/1(name)\n', '/1(name)', 'a//1(name)',
+                     'a/one(name)', 'a/name(1)',
+                     ' '.join(f'{letter}/0(name)' for letter in 'abcdefg'), 'a/1(Name)', 'a/1((name)', 'a/1(name))',
+                     'a/True(name)'):
             self.fails(ParseError('why'), parse_schema, text)
 
     def test_values_that_are_no_strings(self):

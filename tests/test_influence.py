@@ -89,7 +89,16 @@ class TestFind(Contrasts):
         for name in (ANN, BOB, ('job', ('eve',))):
             self.check(database, query, (), name, True)
         self.check(database, query, (), ('job', ('tom',)), False)
-        # If one component always holds, nothing matters.
+        # If one component always holds, nothing matters: ann works in gaul, wherever it is.
+        gaul = ((), (('job', ('P', 'T')), ('city', ('T', 'gaul'))))
+        self.returns((), influential_groups, D, gaul, ())
+        for name in (ANN, BOB):
+            self.check(D, gaul, (), name, False)
+        both = rings.ring_database(rings.ring('a', 3), rings.path('b', 3))
+        linked = ((), tuple((name, ('W',) + terms[1:]) for name, terms in rings.CYCLIC[1]))
+        self.returns((), influential_groups, both, linked, ())
+        self.assertNotEqual(influential_groups(both, rings.CYCLIC, A), ())
+        # Nor does anything if a witness has no conflicting group.
         sure = (S, ((), database[1][1] + (('ulf', 'lyon'),)))
         self.returns((), influential_groups, sure, query, ())
         self.check(sure, query, (), ANN, False)
@@ -187,7 +196,7 @@ class TestErrors(Contrasts):
         database, query, name = rings.LARGE, rings.CYCLIC, ('left', ('a', 'xa'))
         expected = {}
         rows = oracle.all_rows(database)
-        left = [record for record in rows['left'] if record[2] == 'y' + rings.LETTERS[rings.LETTERS.index(record[1][1])]]
+        left = [record for record in rows['left'] if record[2] == 'y' + record[1][1]]
         right = [('a', 'y' + letter, 'x' + rings.LETTERS[(at - 1) % 7]) for at, letter in enumerate(rings.LETTERS[:7])]
         choice = tuple(left + right)
         self.assertTrue(is_choice(database, choice))

@@ -231,9 +231,11 @@ class TestIsGuard(Plans):
         eire = LYON + (('lyon', 'eire'),)
         values = list(broken(GUARD)) + list(STRANGE) + [
             GUARD[:1] + (list(GUARD[1]), GUARD[2]), {(): 1}, ((), (lyon,), (lyon,)), ((), lyon), ((), (lyon[:2],)),
-            ((), (lyon + ((),),)), ((), (eire,), (('jobs',) + lyon[1:],)), ((), (eire,), (lyon[:1] + ('ann',) + lyon[2:],)),
+            ((), (lyon + ((),),)), ((), (eire,), (('jobs',) + lyon[1:],)),
+            ((), (eire,), (lyon[:1] + ('ann',) + lyon[2:],)),
             ((), (eire,), (ANN + (('ann', 'rome'),),)), ((), (eire,), (('city', ('nice',), ('nice', 'gaul')),)),
-            ((), (eire,), (('job', ('eve',), ('eve', 'lyon')),)), ((), (eire,), ([],)), ((), None), ((), ({},)), ([], {})]
+            ((), (eire,), (('job', ('eve',), ('eve', 'lyon')),)), ((), (eire,), ([],)), ((), None), ((), ({},)),
+            ([], {})]
         for value in values:
             for cost in (1, 2, 3):
                 self.returns(repr(value) == repr(((),)) and cost == 1, is_guard, F, Q, answer, cost, value)
@@ -251,6 +253,18 @@ class TestIsGuard(Plans):
         for bad in ((second, first), (first, first), (first, first[:2] + (('a', 1),)), (first, second, third, fourth),
                     (first, second, fourth, third)):
             self.returns(False, is_guard, database, MEET, (), 4, tuple(sorted(set(guard) | {bad})))
+
+    def test_a_group_that_is_named_twice(self):
+        """Also in a position with one triple less than the cost, from which no other one need go on."""
+        database = paired(2, 2)
+        answer = Answer(database, MEET, ())
+        guard = tuple(position for position in find_guard(database, MEET, ()) if len(position) < 3)
+        self.returns(True, is_guard, database, MEET, (), 3, guard)
+        for name, records in answer.conflicting.items():
+            for record in records:
+                for other in records:
+                    value = tuple(sorted(set(guard) | {(name + (record,), name + (other,))}))
+                    self.returns(False, is_guard, database, MEET, (), 3, value)
 
     def test_true_is_not_one(self):
         database = paired(2, 2)

@@ -76,9 +76,11 @@ class TestIsPlan(Case):
         single = ('ask', 'city', ('lyon',), ((('lyon', 'gaul'), PLAN),))
         branches = PLAN[3]
         for value in (twice, single, ask(D, ANN, (PLAN, ask(D, ANN, (PLAN, PLAN)))), PLAN[:3] + (branches[:1],),
-                      PLAN[:3] + (branches[::-1],), PLAN[:3] + (branches + branches[:1],), PLAN[:3] + (branches[:1] * 2,),
+                      PLAN[:3] + (branches[::-1],), PLAN[:3] + (branches + branches[:1],),
+                      PLAN[:3] + (branches[:1] * 2,),
                       PLAN[:3] + (branches + ((('bob', 'rome'), STOP),),), PLAN[:3] + ((),),
-                      ('ask', 'job', ('eve',), ()), ('ask', 'jobs', ('bob',), branches), ('ask', 'job', 'bob', branches),
+                      ('ask', 'job', ('eve',), ()), ('ask', 'jobs', ('bob',), branches),
+                      ('ask', 'job', 'bob', branches),
                       ('ask', 'job', ('ann',), branches), ('ask', 'city', ('cork',), ((('cork', 'eire'), PLAN),)),
                       ('ask', 'job', ('bob',), (('bob', 'cork'), STOP)), ('stop', ()), ('ask',), 'stop', ('ask', BOB),
                       ('ask', 'job', ('bob',), tuple(map(list, branches))), list(PLAN), ('asks',) + PLAN[1:],
@@ -278,6 +280,10 @@ class TestErrors(Case):
         for plan in (ask(database, name, (small, STOP)), ask(database, name, (STOP, small)),
                      ask(database, name, (smaller, STOP)), ask(database, name, (STOP, smaller))):
             self.check_too_many(database, rings.CYCLIC, plan)
+        # Nothing is raised if each stop is small; one that is open makes no plan, whatever the others are.
+        whole = oblivious(database, conflicting_groups(database)[1:])
+        for parts, expected in (((whole, whole), True), ((small, whole), False), ((whole, small), False)):
+            self.assertEqual(is_plan(database, rings.CYCLIC, A, ask(database, name, parts)), expected)
         # The stops have 4096 choices each, and the answer is open there.
         plan = ask(database, name, (small, small))
         self.returns(False, is_plan, database, rings.CYCLIC, A, plan)

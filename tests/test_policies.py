@@ -26,7 +26,8 @@ def claims_on(*pairs):
 class TestIsPolicy(Case):
 
     def test_policies(self):
-        for policy in (ALL, VOTES, ('ranks', ('tom', 'eve')), ('ranks', ('z',)), ('ranks', EIGHT), ('ranks', EIGHT[::-1]),
+        for policy in (ALL, VOTES, ('ranks', ('tom', 'eve')), ('ranks', ('z',)), ('ranks', EIGHT),
+                       ('ranks', EIGHT[::-1]),
                        ('trusted', ('a',)), ('trusted', EIGHT), TWO, ('chain', (ALL,) * 4), ('chain', (VOTES, VOTES)),
                        THREE, ('chain', (ALL, ALL, ('trusted', ('eve', 'tom')))), ('chain', (THREE[1][0],) * 4)):
             self.returns(True, is_policy, policy)
@@ -41,9 +42,11 @@ class TestIsPolicy(Case):
                 ('ranks', ['tom']), ('ranks', ('Tom',)), ('ranks', ('',)), ('ranks', ('abcdefghi',)), ('ranks', (1,)),
                 ('ranks', (True,)), ('ranks', (None,)), ('ranks', ([],)), ('ranks', ('a', {})), ('trusted', ('a', [])),
                 ('trusted', ('a', 1)), ('chain', ()), ('chain', (ALL,)), ('chain', (ALL,) * 5), ('chain', ALL),
-                ('chain', [ALL, ALL]), ('chain', (ALL, 'all')), ('chain', (ALL, None)), ('chain', (ALL, [])), ('rank', ('a',)),
+                ('chain', [ALL, ALL]), ('chain', (ALL, 'all')), ('chain', (ALL, None)), ('chain', (ALL, [])),
+                ('rank', ('a',)),
                 ('chain', (ALL, ('votes', ()))), ('chain', (THREE, ALL)), ('chain', (ALL, THREE)), (ALL,), (None, ()),
-                ([], ()), ({}, ('a',)), ('all', 'votes'), ('ranks', ('tom',), ()), ('chain', (ALL, VOTES), ()), ['all']]:
+                ([], ()), ({}, ('a',)), ('all', 'votes'), ('ranks', ('tom',), ()), ('chain', (ALL, VOTES), ()),
+                ['all']]:
             self.returns(False, is_policy, value)
             self.fails(InvalidPolicy('why'), counting_claims, S, K, value)
             self.fails(InvalidPolicy('why'), claimed_database, S, K, policy=value)
@@ -98,7 +101,8 @@ class TestCounting(Case):
         # After the first policy nobody is left whom the second one lists, so all that are left count.
         self.returns(claims_on(('lyon', 'ab'), ('rome', 'cd')), counting_claims, S, claims,
                      ('chain', (VOTES, ('trusted', ('x',)))))
-        self.returns(claims_on(('lyon', 'a')), counting_claims, S, claims, ('chain', (('ranks', ('a',)), ('ranks', ('d',)))))
+        self.returns(claims_on(('lyon', 'a')), counting_claims, S, claims,
+                     ('chain', (('ranks', ('a',)), ('ranks', ('d',)))))
         self.returns(claims_on(('rome', 'd')), counting_claims, S, claims,
                      ('chain', (('chain', (VOTES, ('ranks', ('d',)))), ALL)))
 
@@ -206,7 +210,8 @@ class Renaming:
         return tuple(sorted((self.word('table', name), size, kinds) for name, size, kinds in schema))
 
     def query(self, query):
-        return (self.values(query[0]), tuple((self.word('table', table), self.values(terms)) for table, terms in query[1]))
+        return (self.values(query[0]), tuple((self.word('table', table), self.values(terms)) for table,
+                                             terms in query[1]))
 
     def claims(self, claims):
         return tuple(sorted((self.word('table', table), self.values(record), self.word('source', source))

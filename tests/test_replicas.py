@@ -152,7 +152,8 @@ class TestEquality(Replicas):
             drawer = Drawer(pick)
             things = [('make_claim', drawer.claim()) for _ in range(6)] + [('make_settlement', drawer.settlement())
                                                                          for _ in range(3)]
-            things += [('withdraw_claim', drawer.claim()) for _ in range(3)] + [('release_settlement', drawer.settlement())
+            things += [('withdraw_claim',
+                        drawer.claim()) for _ in range(3)] + [('release_settlement', drawer.settlement())
                                                                               for _ in range(2)]
             one = Replica(drawer.schema)
             try:
@@ -218,9 +219,11 @@ class TestMessages(Replicas):
         numbers = with_message((((RATE,)), (), (('rate', (), ((0,), (1,))),), ()), N)
         bad = [MESSAGE[:3], MESSAGE + ((),), (K,) * 4, ((LYON,),) * 4, MESSAGE[::-1], list(MESSAGE), (),
                (K[::-1],) + MESSAGE[1:], (K, K + K[:1]) + MESSAGE[2:], MESSAGE[:2] + ((NICE, LYON), ()),
-               MESSAGE[:2] + ((LYON, LYON), ()), (many(41, 1), (), (), ()), ((), many(41, 1), (), ()), (many(7, 1, 7), (), (), ()),
+               MESSAGE[:2] + ((LYON, LYON), ()), (many(41, 1), (), (), ()), ((), many(41, 1), (), ()),
+               (many(7, 1, 7), (), (), ()),
                ((), many(7, 1, 7), (), ()), (many(8, 26)[:201], (), (), ()), ((), many(8, 26)[:201], (), ()),
-               ((), (), many_settlements(61), ()), ((), (), (), many_settlements(61)), (None,) * 4, ((),) * 3, ((),) * 5,
+               ((), (), many_settlements(61), ()), ((), (), (), many_settlements(61)), (None,) * 4, ((),) * 3,
+               ((),) * 5,
                {0: K}, 'abcd', ((RATE,), (), (), ()), (K, (), (), None), replica, replica.desk()]
         for value in list(STRANGE) + bad + list(broken(MESSAGE)):
             self.refused(InvalidMessage('why'), replica, 'receive', value)

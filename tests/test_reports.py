@@ -30,7 +30,8 @@ def drawn(seed, count, most=64):
             database = oracle.random_database(pick, schema)
         else:
             schema, _, database = dense_input(pick)
-        if len(oracle.choices(database)) <= most and max(map(len, (own for _, own in oracle.groups(database))), default=0) <= 6:
+        if len(oracle.choices(database)) <= most and max(map(len, (own for _, own in oracle.groups(database))),
+                                                         default=0) <= 6:
             pool = [oracle.random_query(pick, schema, head=3) for _ in range(2)]
             report = report_oracle.drawn_report(
                 pick, schema, lambda: pick.choice(pool) if pick.random() < 0.5 else oracle.random_query(pick, schema))
@@ -54,7 +55,8 @@ class TestForm(Case):
                 (R + (('union', 3, 3), ('columns', 3, ()), ('both', 5, 5), ('columns', 6, ())), ())):
             self.returns(True, is_report, S, report)
             self.returns(kinds, step_kinds, S, report, len(report) - 1)
-        wide = (('query', WIDE), ('columns', 0, (3, 2, 1, 0)), ('where', 0, 2, 1), ('where', 1, 0, -5), ('columns', 1, (3,)))
+        wide = (('query', WIDE), ('columns', 0, (3, 2, 1, 0)), ('where', 0, 2, 1), ('where', 1, 0, -5),
+                ('columns', 1, (3,)))
         self.returns(True, is_report, N, wide)
         self.returns(('number', 'number', 'name', 'name'), step_kinds, N, wide, 1)
         self.returns(('name', 'name', 'number', 'number'), step_kinds, N, wide, 2)
@@ -78,8 +80,10 @@ class TestForm(Case):
         base = (('query', FULL),)
         for column, value in ((0, 'ann'), (0, 'z'), (1, 5), (1, -(10 ** 9))):
             self.returns(True, is_report, N, base + (('where', 0, column, value),))
-        for column, value in ((0, 5), (1, 'ann'), (0, 'A'), (0, 'Ann'), (1, True), (1, False), (1, 10 ** 9 + 1), (0, None),
-                              (2, 'ann'), (2, 5), (-1, 5), (True, 5), (False, 'ann'), (None, 'ann'), ([], 'ann'), (0, [])):
+        for column, value in ((0, 5), (1, 'ann'), (0, 'A'), (0, 'Ann'), (1, True), (1, False), (1, 10 ** 9 + 1),
+                              (0, None),
+                              (2, 'ann'), (2, 5), (-1, 5), (True, 5), (False, 'ann'), (None, 'ann'), ([], 'ann'),
+                              (0, [])):
             self.returns(False, is_report, N, base + (('where', 0, column, value),))
 
     def test_references(self):
@@ -87,7 +91,8 @@ class TestForm(Case):
             for one in (0, 1, 2):
                 for other in (0, 1, 2):
                     self.returns(True, is_report, S, R[:3] + ((word, one, other),))
-            for one, other in ((3, 0), (0, 3), (4, 0), (0, 4), (-1, 0), (0, -1), (True, 0), (0, True), (None, 0), (0, []),
+            for one, other in ((3, 0), (0, 3), (4, 0), (0, 4), (-1, 0), (0, -1), (True, 0), (0, True), (None, 0),
+                               (0, []),
                                ('0', 0), (0, {})):
                 self.returns(False, is_report, S, R[:3] + ((word, one, other),))
             self.returns(False, is_report, S, ((word, 0, 0),))
@@ -103,11 +108,13 @@ class TestForm(Case):
 
     def test_any_value(self):
         for value in list(STRANGE) + list(broken(R)) + [
-                R[::-1], R[1:], list(R), (list(R[0]),), R[0], (Q,), (('query',),), (('query', Q, 0),), (('query', Q[1]),),
+                R[::-1], R[1:], list(R), (list(R[0]),), R[0], (Q,), (('query',),), (('query', Q, 0),),
+                (('query', Q[1]),),
                 (('query', (('P', 'X'), Q[1])),), (('queries', Q),), R[:1] + (('where', 0, 0),), R[:1] + (('both', 0),),
                 R[:1] + (('where', 0, 0, 'ann', 1),), R[:1] + (('columns', 0),), R[:1] + (('columns', 0, (), ()),),
                 R[:1] + (('union', 0),), R[:1] + (('union', 0, 0, 0),), R[:1] + (('unions', 0, 0),), R[:1] + ((),),
-                R[:1] + (('minus',),), R[:1] + ((None, 0, 0),), R[:1] + (([], 0, 0),), R[:1] + (({}, 0, 0),), R + (None,),
+                R[:1] + (('minus',),), R[:1] + ((None, 0, 0),), R[:1] + (([], 0, 0),), R[:1] + (({}, 0, 0),),
+                R + (None,),
                 R[:1] + (('query', 0),), (('query', FULL),), {0: R[0]}, 'query', ('query', Q)]:
             self.returns(False, is_report, S, value)
             self.fails(InvalidReport('why'), step_kinds, S, value, 0)
@@ -146,7 +153,8 @@ class TestResults(Case):
 
     def test_kinds_of_numbers(self):
         report = (('query', FULL), ('where', 0, 1, 1), ('columns', 0, (1,)))
-        self.returns(((('ann', 0), ('ann', 1)), (('ann', 1),), ((0,), (1,))), report_results, M, report, choice_at(M, 3))
+        self.returns(((('ann', 0), ('ann', 1)), (('ann', 1),), ((0,), (1,))), report_results, M, report,
+                     choice_at(M, 3))
 
 
 class TestBounds(Case):

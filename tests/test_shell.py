@@ -19,12 +19,15 @@ from tests.test_settlements import many as many_settlements
 
 Q = (('P', 'C'), (('job', ('P', 'T')), ('city', ('T', 'C'))))
 SCHEMA = 'schema city/1(name,name) job/1(name,name)'
-SAMPLE = (SCHEMA, 'claim eve city(lyon,gaul)', 'claim eve job(ann,lyon)', 'watch home P,C <- job(P,T) city(T,C)', 'answers home',
+SAMPLE = (SCHEMA, 'claim eve city(lyon,gaul)', 'claim eve job(ann,lyon)', 'watch home P,C <- job(P,T) city(T,C)',
+          'answers home',
           'claim tom job(ann,nice)', 'share home ann,gaul', 'matters home ann,gaul')
 LAST = 'policy trusted eve,tom'
 # A command of each form, after SAMPLE.
-FORMS = (SCHEMA, 'claim eve job(bob,lyon)', 'withdraw tom job(ann,nice)', 'settle job(ann,lyon)', 'release job(ann,lyon)',
-         'policy votes', LAST, 'watch town - <- job(P,T)', 'unwatch home', 'undo', 'answers home', 'class home ann,gaul',
+FORMS = (SCHEMA, 'claim eve job(bob,lyon)', 'withdraw tom job(ann,nice)', 'settle job(ann,lyon)',
+         'release job(ann,lyon)',
+         'policy votes', LAST, 'watch town - <- job(P,T)', 'unwatch home', 'undo', 'answers home',
+         'class home ann,gaul',
          'share home ann,gaul', 'cost home ann,gaul', 'matters home ann,gaul', 'compiled home', 'disputed', 'claims',
          'settlements')
 
@@ -52,20 +55,23 @@ class Shells(Case):
     def refused(self, error, shell, command):
         """The command raises the error, is counted, and leaves the desk as it was."""
         desk, count = shell.desk(), len(shell)
-        facts = desk is not None and repr((desk.claims(), desk.settlements(), desk.policy(), desk.watched(), desk.log()))
+        facts = desk is not None and repr((desk.claims(), desk.settlements(), desk.policy(), desk.watched(),
+                                           desk.log()))
         for number in (1, 2):
             self.assertEqual(self.call(shell.run, command), f'{type(error).__name__}{vars(error)!r}', command)
             self.assertEqual((len(shell), str(shell)), (count + number, f'shell with {count + number} commands'))
         self.assertIs(shell.desk(), desk)
         if desk is not None:
-            self.assertEqual(repr((desk.claims(), desk.settlements(), desk.policy(), desk.watched(), desk.log())), facts)
+            self.assertEqual(repr((desk.claims(), desk.settlements(), desk.policy(), desk.watched(), desk.log())),
+                             facts)
 
 
 class TestCommands(Shells):
 
     def test_the_sample(self):
         shell = Shell()
-        self.assertEqual(shell.run_all(SAMPLE), ('ok', 'none', 'none', 'none', 'ann,gaul certain', 'home ann,gaul certain>open',
+        self.assertEqual(shell.run_all(SAMPLE), ('ok', 'none', 'none', 'none', 'ann,gaul certain',
+                                                 'home ann,gaul certain>open',
                                                  '1/2', 'job(ann)'))
         self.assertEqual((len(shell), str(shell)), (8, 'shell with 8 commands'))
 
@@ -75,12 +81,15 @@ class TestCommands(Shells):
                 ('class home ann,gaul', 'open'), ('class home eve,gaul', 'impossible'), ('share home ann,gaul', '1/2'),
                 ('share home eve,gaul', '0/1'), ('cost home ann,gaul', '1'), ('cost home eve,gaul', '0'),
                 ('matters home eve,gaul', 'none'), ('compiled home', 'yes'), ('disputed', 'none'), ('claims', '3'),
-                ('settlements', '0'), ('settle job(ann,lyon)', 'home ann,gaul open>certain'), ('class home ann,gaul', 'certain'),
+                ('settlements', '0'), ('settle job(ann,lyon)', 'home ann,gaul open>certain'),
+                ('class home ann,gaul', 'certain'),
                 ('share home ann,gaul', '1/1'), ('matters home ann,gaul', 'none'), ('settlements', '1'),
                 ('settle job(ann,nice) | job(ann,rome)', 'home ann,gaul certain>open'), ('disputed', 'job(ann)'),
-                ('settlements', '2'), ('undo', 'home ann,gaul open>certain'), ('release job(ann,lyon)', 'home ann,gaul certain>open'),
+                ('settlements', '2'), ('undo', 'home ann,gaul open>certain'),
+                ('release job(ann,lyon)', 'home ann,gaul certain>open'),
                 ('policy ranks eve,tom', 'home ann,gaul open>certain'), ('policy ranks eve,tom', 'none'),
-                ('withdraw eve job(ann,lyon)', 'home ann,gaul certain>impossible'), ('answers home', 'none'), ('claims', '2'),
+                ('withdraw eve job(ann,lyon)', 'home ann,gaul certain>impossible'), ('answers home', 'none'),
+                ('claims', '2'),
                 ('claim eve city(nice,eire)', 'home ann,eire impossible>certain'),
                 ('claim sam job(ann,lyon)', 'home ann,eire certain>certain'), ('unwatch home', 'none')):
             if command.startswith('claim sam'):
@@ -91,19 +100,26 @@ class TestCommands(Shells):
 
     def test_answers_of_several_kinds(self):
         shell = Shell()
-        shell.run_all((format_schema(N).join(('schema ', '')), 'claim eve rate(0)', 'claim tom rate(-5)', 'claim tom full(ann,1)',
-                       'watch x X <- rate(X)', 'watch y - <- rate(0)', 'watch z X,A <- full(A,X)', 'claim a pay(1,-3,bob)'))
+        shell.run_all((format_schema(N).join(('schema ', '')), 'claim eve rate(0)', 'claim tom rate(-5)',
+                       'claim tom full(ann,1)',
+                       'watch x X <- rate(X)', 'watch y - <- rate(0)', 'watch z X,A <- full(A,X)',
+                       'claim a pay(1,-3,bob)'))
         for command, expected in (
-                ('answers x', '-5 open ; 0 open'), ('answers y', '- open'), ('answers z', '1,ann certain'), ('class x -5', 'open'),
-                ('class y -', 'open'), ('share y -', '1/2'), ('cost y -', '1'), ('matters y -', 'rate(-)'), ('matters x 0', 'rate(-)'),
-                ('settle rate(-5)', 'x -5 open>certain ; x 0 open>impossible ; y - open>impossible'), ('answers y', 'none'),
-                ('settle rate(7)', 'x -5 certain>open ; x 0 impossible>open ; y - impossible>open'), ('disputed', 'rate(-)'),
+                ('answers x', '-5 open ; 0 open'), ('answers y', '- open'), ('answers z', '1,ann certain'),
+                ('class x -5', 'open'),
+                ('class y -', 'open'), ('share y -', '1/2'), ('cost y -', '1'), ('matters y -', 'rate(-)'),
+                ('matters x 0', 'rate(-)'),
+                ('settle rate(-5)', 'x -5 open>certain ; x 0 open>impossible ; y - open>impossible'),
+                ('answers y', 'none'),
+                ('settle rate(7)', 'x -5 certain>open ; x 0 impossible>open ; y - impossible>open'),
+                ('disputed', 'rate(-)'),
                 ('settle pay(1,2,ann)', 'none'), ('disputed', 'pay(1) rate(-)'), ('class z 1,ann', 'certain')):
             self.assertEqual(shell.run(command), expected, command)
 
     def test_queries_with_a_cycle(self):
         shell = Shell()
-        shell.run_all((f'schema {format_schema(rings.LEFT_RIGHT)}', f'watch a {format_query(rings.LEFT_RIGHT, rings.CYCLIC)}',
+        shell.run_all((f'schema {format_schema(rings.LEFT_RIGHT)}',
+                       f'watch a {format_query(rings.LEFT_RIGHT, rings.CYCLIC)}',
                        f'watch b {format_query(rings.LEFT_RIGHT, rings.ACYCLIC)}'))
         self.assertEqual((shell.run('compiled a'), shell.run('compiled b')), ('no', 'yes'))
 
@@ -205,11 +221,14 @@ class TestErrors(Shells):
             if words[0] not in ('schema', 'settle', 'release', 'policy', 'watch'):
                 self.refused(InvalidCommand('why'), shell, command + ' more')
         # What is the whole rest may have more words, of which a text is made that is none.
-        for command in ('schema a/1(name) more', 'settle job(ann,lyon) | more', 'release job(ann,lyon) more', 'policy all more',
+        for command in ('schema a/1(name) more', 'settle job(ann,lyon) | more', 'release job(ann,lyon) more',
+                        'policy all more',
                         'watch town - <- job(P,T) more', 'policy trusted', 'watch town -', 'watch town - <-'):
             self.refused(ParseError('why'), shell, command)
-        for command in ('undo home', 'claims x', 'settlements -', 'disputed -', 'compiled', 'answers', 'answers home home', 'unwatch',
-                        'unwatch home town', 'claim eve', 'claim', 'watch home', 'class home', 'class home ann gaul', 'share home',
+        for command in ('undo home', 'claims x', 'settlements -', 'disputed -', 'compiled', 'answers',
+                        'answers home home', 'unwatch',
+                        'unwatch home town', 'claim eve', 'claim', 'watch home', 'class home', 'class home ann gaul',
+                        'share home',
                         'cost', 'matters home ann,gaul x', 'settle', 'release', 'policy', 'schema'):
             self.refused(InvalidCommand('why'), shell, command)
 
@@ -226,22 +245,30 @@ class TestErrors(Shells):
 
     def test_what_is_no_command(self):
         shell = sample_shell()
-        for command in ('', ' ', 'nothing', 'Claims', 'CLAIMS', 'claims\n', '\nclaims', 'claims\t', 'un do', 'help', '-', 'claimseve',
-                        'classes home', 'news', 'undo\n', 'class', 'a' * 10 ** 6, 'x ' * 10 ** 5 + 'x', 'claim,eve,job(ann,lyon)'):
+        for command in ('', ' ', 'nothing', 'Claims', 'CLAIMS', 'claims\n', '\nclaims', 'claims\t', 'un do', 'help',
+                        '-', 'claimseve',
+                        'classes home', 'news', 'undo\n', 'class', 'a' * 10 ** 6, 'x ' * 10 ** 5 + 'x',
+                        'claim,eve,job(ann,lyon)'):
             self.refused(InvalidCommand('why'), shell, command)
-        for value in [value for value in STRANGE if type(value) is not str] + [b'claims', ['claims'], ('claims',), shell, Desk(S)]:
+        others = [value for value in STRANGE if type(value) is not str]
+        for value in others + [b'claims', ['claims'], ('claims',), shell, Desk(S)]:
             self.refused(InvalidCommand('why'), shell, value)
 
     def test_names_and_values(self):
         shell = sample_shell()
         for name in ('Home', 'HOME', 'abcdefghi', '1', '-', 'home,town', 'ho-me', 'home\n', '_', 'h0me'):
-            for command in (f'watch {name} nothing', f'watch {name} P <- job(P,T)', f'unwatch {name}', f'answers {name}',
-                            f'class {name} ann,gaul', f'class {name} ,', f'share {name} ann,gaul', f'cost {name} ann,gaul',
-                            f'matters {name} ann,gaul', f'compiled {name}', f'claim {name} nothing', f'claim {name} job(ann,rome)',
+            for command in (f'watch {name} nothing', f'watch {name} P <- job(P,T)', f'unwatch {name}',
+                            f'answers {name}',
+                            f'class {name} ann,gaul', f'class {name} ,', f'share {name} ann,gaul',
+                            f'cost {name} ann,gaul',
+                            f'matters {name} ann,gaul', f'compiled {name}', f'claim {name} nothing',
+                            f'claim {name} job(ann,rome)',
                             f'withdraw {name} job(ann,lyon)', f'withdraw {name} nothing'):
                 self.refused(InvalidCommand('why'), shell, command)
-        for values in ('ANN', 'ann,', ',gaul', 'ann,,gaul', 'ann;gaul', 'ann,T', '01', '-0', '+1', '1000000001', '00000000001', '--',
-                       '-,-', 'ann,-', 'abcdefghi', '1' * 11, '1' * 10 ** 5, 'ann\n', '()', '(ann,gaul)', '1.0', 'ann,gaul,'):
+        for values in ('ANN', 'ann,', ',gaul', 'ann,,gaul', 'ann;gaul', 'ann,T', '01', '-0', '+1', '1000000001',
+                       '00000000001', '--',
+                       '-,-', 'ann,-', 'abcdefghi', '1' * 11, '1' * 10 ** 5, 'ann\n', '()', '(ann,gaul)', '1.0',
+                       'ann,gaul,'):
             self.assertIsNone(text_oracle.values(values))
             for word in ('class', 'share', 'cost', 'matters'):
                 for name in ('home', 'town'):
@@ -249,9 +276,12 @@ class TestErrors(Shells):
 
     def test_texts_that_cannot_be_parsed(self):
         shell = sample_shell()
-        for command in ('claim eve job', 'claim eve job(ann,T)', 'claim eve jobs(ann,rome)', 'withdraw eve job(ann)', 'settle job(ann)',
-                        'settle job(ann,lyon) | job(bob,lyon)', 'release jobs(ann,lyon)', 'policy none', 'policy ranks', 'policy All',
-                        'policy chain ( all )', 'watch town P', 'watch home P', 'watch town P <- jobs(P,T)', 'schema nothing'):
+        for command in ('claim eve job', 'claim eve job(ann,T)', 'claim eve jobs(ann,rome)', 'withdraw eve job(ann)',
+                        'settle job(ann)',
+                        'settle job(ann,lyon) | job(bob,lyon)', 'release jobs(ann,lyon)', 'policy none', 'policy ranks',
+                        'policy All',
+                        'policy chain ( all )', 'watch town P', 'watch home P', 'watch town P <- jobs(P,T)',
+                        'schema nothing'):
             self.refused(ParseError('why'), shell, command)
 
     def test_the_errors_of_the_desk_and_of_the_functions(self):
@@ -259,10 +289,14 @@ class TestErrors(Shells):
         for command, error in (
                 ('claim eve job(ann,lyon)', InvalidOperation('')), ('withdraw tom job(ann,lyon)', InvalidOperation('')),
                 ('release job(ann,lyon)', InvalidOperation('')), ('watch home P <- job(P,T)', InvalidOperation('')),
-                ('unwatch town', UnknownName('town')), ('answers town', UnknownName('town')), ('class town ann,gaul', UnknownName('town')),
-                ('class town a', UnknownName('town')), ('share town a', UnknownName('town')), ('cost town -', UnknownName('town')),
-                ('matters town 1', UnknownName('town')), ('compiled town', UnknownName('town')), ('class home ann', InvalidAnswer('')),
-                ('class home ann,1', InvalidAnswer('')), ('class home -', InvalidAnswer('')), ('share home ann', InvalidAnswer('')),
+                ('unwatch town', UnknownName('town')), ('answers town', UnknownName('town')),
+                ('class town ann,gaul', UnknownName('town')),
+                ('class town a', UnknownName('town')), ('share town a', UnknownName('town')),
+                ('cost town -', UnknownName('town')),
+                ('matters town 1', UnknownName('town')), ('compiled town', UnknownName('town')),
+                ('class home ann', InvalidAnswer('')),
+                ('class home ann,1', InvalidAnswer('')), ('class home -', InvalidAnswer('')),
+                ('share home ann', InvalidAnswer('')),
                 ('cost home ann,gaul,x', InvalidAnswer('')), ('matters home 5,7', InvalidAnswer('')),
                 ('share home a,b,c,d,e,f,g', InvalidAnswer(''))):
             self.refused(error, shell, command)
@@ -272,7 +306,8 @@ class TestErrors(Shells):
     def test_limits(self):
         shell = Shell()
         shell.run(SCHEMA)
-        shell.run_all(tuple(f'claim {source} {format_record(S, table, record)}' for table, record, source in many(40, 5)))
+        shell.run_all(tuple(f'claim {source} {format_record(S, table, record)}' for table, record,
+                            source in many(40, 5)))
         shell.run_all(tuple(f'settle {format_settlement(S, settlement)}' for settlement in many_settlements(60)))
         shell.run_all(tuple(f'watch {letter} P <- job(P,T)' for letter in 'abcdef'))
         self.assertEqual((shell.run('claims'), shell.run('settlements')), ('200', '60'))
@@ -292,7 +327,8 @@ class TestErrors(Shells):
         for command in ('answers home', 'class home a', 'share home a', 'cost home a', 'matters home a', 'policy all',
                         'withdraw eve left(a,xa,ya)', f'watch town {format_query(rings.LEFT_RIGHT, rings.ACYCLIC)}'):
             self.refused(TooMany(4096), shell, command)
-        self.assertEqual(shell.run_all(('class home b', 'share home b', 'cost home b', 'matters home b', 'compiled home')),
+        self.assertEqual(shell.run_all(('class home b', 'share home b', 'cost home b', 'matters home b',
+                                        'compiled home')),
                          ('impossible', '0/1', '0', 'none', 'no'))
         self.assertTrue(shell.desk() == desk)
         self.assertEqual(shell.run('undo'), 'none')
@@ -311,7 +347,8 @@ class TestShell(Shells):
     def test_run_all(self):
         shell = Shell()
         self.assertEqual(shell.run_all(()), ())
-        for value in [value for value in STRANGE if type(value) is not tuple] + ['claims', [SCHEMA], {SCHEMA: 1}, Shell(), S[0:0] or None]:
+        others = [value for value in STRANGE if type(value) is not tuple]
+        for value in others + ['claims', [SCHEMA], {SCHEMA: 1}, Shell()]:
             self.fails(InvalidCommand('why'), shell.run_all, value)
         self.assertEqual((len(shell), shell.desk()), (0, None))
         # The commands before the one that fails remain run, those after it are not run.

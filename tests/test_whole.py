@@ -8,8 +8,10 @@ from rightrecord.certain.verdicts import certain_answers, decide, is_decision, o
 from rightrecord.data.choices import choice_at
 from rightrecord.desk.desk import Desk
 from rightrecord.desk.replicas import Replica
-from rightrecord.errors import (InvalidAnswer, InvalidChoice, InvalidClaims, InvalidDatabase, InvalidFormula, InvalidNumber,
-                                InvalidPlan, InvalidPolicy, InvalidQuery, InvalidReport, InvalidSchema, InvalidSettlement,
+from rightrecord.errors import (InvalidAnswer, InvalidChoice, InvalidClaims, InvalidDatabase, InvalidFormula,
+                                InvalidNumber,
+                                InvalidPlan, InvalidPolicy, InvalidQuery, InvalidReport, InvalidSchema,
+                                InvalidSettlement,
                                 InvalidWeights, ParseError, TooMany, UnknownGroup, UnknownName)
 from rightrecord.formula.compiler import certain_by_formula
 from rightrecord.measure.shares import answer_share, answer_shares, choice_share, expected_answers
@@ -33,7 +35,8 @@ GAUL = ('bob', 'gaul')
 LYON = ('job', ('bob',), (('bob', 'lyon'),))
 PLAN = ask(D, BOB, (('stop',), ('stop',)))
 # A valid argument for each parameter, and the error of an invalid one; a function takes it and the value.
-VALID = {'schema': S, 'database': D, 'query': Q, 'answer': GAUL, 'table': 'job', 'key': ('bob',), 'choice': choice_at(D, 0),
+VALID = {'schema': S, 'database': D, 'query': Q, 'answer': GAUL, 'table': 'job', 'key': ('bob',),
+         'choice': choice_at(D, 0),
          'other': choice_at(D, 1), 'record': ('bob', 'lyon'), 'index': 0, 'variable': 'T', 'formula': ('true',),
          'binding': {}, 'claims': K, 'report': R, 'settlements': (LYON,), 'settlement': LYON, 'pattern': Q[1][0],
          'plan': PLAN, 'cost': 1, 'policy': ('all',), 'weights': None, 'head': ('P',), 'number': 0, 'records': (),
@@ -109,8 +112,10 @@ class TestErrors(Case):
         for function, parameters in functions():
             name = parameters[0].name
             if name in ('schema', 'database'):
-                for bad in (D, (S, ()), (S,), D[1]) if name == 'schema' else (S, (S, D[1][0]), (D, D[1]), (N, D[1]), D + ((),)):
-                    self.check(function, parameters, [bad] + [VALID[own.name] for own in parameters[1:]], ERRORS[name]('why'))
+                for bad in (D, (S, ()), (S,),
+                            D[1]) if name == 'schema' else (S, (S, D[1][0]), (D, D[1]), (N, D[1]), D + ((),)):
+                    self.check(function, parameters, [bad] + [VALID[own.name] for own in parameters[1:]],
+                               ERRORS[name]('why'))
 
 
 def package_values():
@@ -121,12 +126,17 @@ def package_values():
     replica.make_claim(*K[0])
     shell = Shell()
     shell.run('schema city/1(name,name) job/1(name,name)')
-    return [S, N, D, M, Q, R, K, K[0], GAUL, PLAN, LYON, (LYON,), choice_at(D, 0), find_contrast(D, Q, GAUL, *BOB), least_plan(D, Q, GAUL),
+    return [S, N, D, M, Q, R, K, K[0], GAUL, PLAN, LYON, (LYON,), choice_at(D, 0), find_contrast(D, Q, GAUL, *BOB),
+            least_plan(D, Q, GAUL),
             find_guard(D, Q, GAUL), decide(D, Q, GAUL), decide(D, Q, ('ann', 'gaul')), decide(D, Q, ('ann', 'gaul'))[1],
-            ('impossible',), ('true',), ('chain', (('all',), ('votes',))), ('all',), ('exists', ('T',), 'job', ('P', 'T'), ('true',)),
-            answer_shares(D, Q), desk, desk.watched(), desk.classes('home'), desk.log(), replica, replica.message(), replica.desk(),
-            shell, shell.desk(), (desk,), (desk, desk), [desk], ('ask', desk, replica, shell), ('stop', desk), (replica, (desk,)),
-            ('leaf', desk), (('job', desk, 'eve'),), ('job', (shell,), replica), (('query', desk),), (desk,) * 3, (desk,) * 4,
+            ('impossible',), ('true',), ('chain', (('all',), ('votes',))), ('all',),
+            ('exists', ('T',), 'job', ('P', 'T'), ('true',)),
+            answer_shares(D, Q), desk, desk.watched(), desk.classes('home'), desk.log(), replica, replica.message(),
+            replica.desk(),
+            shell, shell.desk(), (desk,), (desk, desk), [desk], ('ask', desk, replica, shell), ('stop', desk),
+            (replica, (desk,)),
+            ('leaf', desk), (('job', desk, 'eve'),), ('job', (shell,), replica), (('query', desk),), (desk,) * 3,
+            (desk,) * 4,
             ((desk,), (desk,)), ('claim', desk), 'home', 7, -7, 10 ** 40 - 1, 'a' * 40, (1, 'ann')]
 
 
@@ -146,7 +156,8 @@ class TestAnyValue(Case):
                     accepted[function.__name__] = accepted.get(function.__name__, 0) + result
         self.assertEqual(len(accepted), 26)
         for name in accepted:
-            if name not in ('is_attack_path', 'is_certain_tree', 'is_cycle', 'is_pattern', 'is_variable', 'is_weights', 'is_witness'):
+            if name not in ('is_attack_path', 'is_certain_tree', 'is_cycle', 'is_pattern', 'is_variable', 'is_weights',
+                            'is_witness'):
                 self.assertGreater(accepted[name], 0, name)
 
 
@@ -155,10 +166,13 @@ class TestParameters(Case):
     def test_by_keyword_only(self):
         weights = ((1, 1, 1), (1, 1, 1, 3))
         for function, arguments, name, default, other in (
-                (choice_share, (D, choice_at(D, 0)), 'weights', None, weights), (answer_share, (D, Q, GAUL), 'weights', None, weights),
+                (choice_share, (D, choice_at(D, 0)), 'weights', None, weights),
+                (answer_share, (D, Q, GAUL), 'weights', None, weights),
                 (answer_shares, (D, Q), 'weights', None, weights), (expected_answers, (D, Q), 'weights', None, weights),
-                (claimed_database, (S, K), 'policy', ('all',), ('votes',)), (Desk, (S,), 'policy', ('all',), ('votes',)),
-                (Desk, (S,), 'claims', (), K), (Desk, (S,), 'settlements', (), (LYON,)), (Replica, (S,), 'policy', ('all',), ('votes',))):
+                (claimed_database, (S, K), 'policy', ('all',), ('votes',)),
+                (Desk, (S,), 'policy', ('all',), ('votes',)),
+                (Desk, (S,), 'claims', (), K), (Desk, (S,), 'settlements', (), (LYON,)),
+                (Replica, (S,), 'policy', ('all',), ('votes',))):
             with self.assertRaises(TypeError):
                 function(*arguments, other)
             self.assertTrue(function(*arguments) == function(*arguments, **{name: default}))
@@ -212,7 +226,8 @@ class TestGuarantee(Case):
                     seen[kind] = seen.get(kind, 0) + 1
                 certain = tuple(answer for answer in classes if classes[answer] == 'certain')
                 self.assertEqual(certain_answers(database, query), certain)
-                self.assertEqual(open_answers(database, query), tuple(answer for answer in classes if answer not in certain))
+                self.assertEqual(open_answers(database, query),
+                                 tuple(answer for answer in classes if answer not in certain))
                 if not oracle.cycles(query, oracle.edges(drawer.schema, query)):
                     self.assertEqual(certain_by_formula(database, query), certain)
         self.assertGreater(min(seen.values()), 50, seen)

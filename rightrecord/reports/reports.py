@@ -12,7 +12,6 @@ from rightrecord.query.matching import find_answers, witnesses_by_answer
 from rightrecord.query.queries import head_kinds, is_query
 
 MAX_STEPS = 8
-MAX_KINDS = 4
 PAIRS = ("union", "both", "minus")
 # What a tuple belongs to, as bits: in the bounds of a step it is in lower, in upper, or in both.
 IN_LOWER = 1
@@ -61,7 +60,7 @@ def _is_column(kinds, column, value):
 
 
 def _kinds_of_columns(kinds, columns):
-    if not is_tuple(columns, 0, MAX_KINDS) or not all([is_integer_below(column, len(kinds)) for column in columns]):
+    if not is_tuple(columns, 0, len(kinds)) or not all([is_integer_below(column, len(kinds)) for column in columns]):
         return None
     return tuple([kinds[column] for column in columns]) if len(set(columns)) == len(columns) else None
 

@@ -85,14 +85,12 @@ class Planner:
 
     def guard(self):
         """Return a guard for the least cost: positions from which on enough is left to ask."""
-        cost = self.cost(())
-        positions = {}
-        level = [()] if cost > 0 else []
-        for size in range(cost):
-            positions.update({position: True for position in level})
-            if size < cost - 1:
-                level = sorted({self._hardest(position, name) for position in level
-                                for name in _matters_at(self.outlook, position)})
+        positions = []
+        level = [()]
+        for _ in range(self.cost(())):
+            positions.extend(level)
+            level = sorted({self._hardest(position, name) for position in level
+                            for name in _matters_at(self.outlook, position)})
         return tuple(sorted(positions))
 
     def _hardest(self, position, name):

@@ -55,10 +55,11 @@ def find_counting(schema, claims, policy):
             claims = find_counting(schema, claims, part)
         return claims
     grouped = {}
+    # Keys stand in front, so in ascending claims those of one group stand together.
     for claim in claims:
         table, record, _ = claim
         grouped.setdefault((table, record[:find_table(schema, table)[1]]), []).append(claim)
-    return tuple(sorted([claim for group in grouped.values() for claim in _counting_in_group(group, policy)]))
+    return tuple([claim for group in grouped.values() for claim in _counting_in_group(group, policy)])
 
 
 def _counting_in_group(claims, policy):
